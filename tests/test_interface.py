@@ -1,0 +1,117 @@
+"""The interface has the names and arguments of the document, and the package its rules of language."""
+
+import importlib
+import inspect
+import pathlib
+import re
+import types
+import unittest
+import warnings
+
+from language import problems
+
+PACKAGE = pathlib.Path(__file__).resolve().parent.parent / "finestcuts"
+
+FUNCTIONS = {
+    "deeds": {"is_sum": "(value)", "is_deed": "(value)", "do_clash": "(one, other)"},
+}
+CLASSES = {
+    "errors": {
+        **{
+            "Invalid" + name: "(value)"
+            for name in "Item Kinds System Store Call Cutting Cuts Row Run Order Costs Number Text".split()
+        },
+        **{"InvalidKind": "(part)", "ParseError": "(line)", "TooMany": "(limit)"},
+        **{"UnknownKind": "(value)", "UnknownCall": "(value)"},
+        **{"NoPiece": "(number)", "NotOpen": "(number)", "StillOpen": "(number)"},
+        **{name: None for name in ("CutError", "InvalidLine", "NotInOrder", "NoSystem", "NoEngine")},
+    },
+    "kinds": {"Kind": "(name, parameters, steps, unlike=(), backs=False, alone=False, most=6)"},
+}
+METHODS = {"Kind": ("__init__", "__len__", "__eq__")}
+
+
+def listed(table):
+    for module, rows in table.items():
+        for name, arguments in rows.items():
+            yield f"finestcuts.{module}", name, arguments
+
+
+class TestInterface(unittest.TestCase):
+    def check(self, module, name, arguments):
+        value = getattr(importlib.import_module(module), name)
+        self.assertEqual((value.__module__, value.__name__), (module, name))
+        if arguments is not None:
+            self.assertEqual(str(inspect.signature(value)), arguments)
+        return value
+
+    def test_functions(self):
+        for module, name, arguments in listed(FUNCTIONS):
+            with self.subTest(name):
+                self.assertIsInstance(self.check(module, name, arguments), types.FunctionType)
+
+    def test_classes(self):
+        for module, name, arguments in listed(CLASSES):
+            with self.subTest(name):
+                value = self.check(module, name, arguments)
+                self.assertIs(type(value), type)
+                missing = [method for method in METHODS.get(name, ()) if method not in vars(value)]
+                self.assertEqual(missing, [])
+                if arguments is not None:
+                    self.assertIn("__init__", vars(value))
+
+
+class TestLanguage(unittest.TestCase):
+    def test_files(self):
+        files = [path for path in PACKAGE.iterdir() if path.name != "__pycache__"]
+        self.assertIn("__init__.py", [path.name for path in files])
+        for path in files:
+            self.assertRegex(path.name, "^([a-z][a-z0-9_]*|__init__|__main__)[.]py$")
+            self.assertTrue(path.is_file())
+
+    def test_rules(self):
+        files = [path for path in PACKAGE.glob("*.py") if path.name != "__init__.py"]
+        texts = {f"finestcuts.{path.stem}": path.read_text(encoding="utf-8") for path in files}
+        self.assertEqual(problems(texts), [])
+        self.assertGreater(len(texts), 2)
+        with warnings.catch_warnings():
+            warnings.simplefilter("error")
+            for module, text in texts.items():
+                compile(text, module, "exec")
+
+    def test_broken_rules_are_found(self):
+        broken = (
+            ("L2", "import math\n"),
+            ("L2", "from os import path\n"),
+            ("L2", "from .b import f\n"),
+            ("L2", "from finestcuts.b import no\n"),
+            ("L3", "X = len('a')\n"),
+            ("L3", "for x in (1, 2):\n    pass\n"),
+            ("L4", "@f\nclass A:\n    pass\n"),
+            ("L5", "class A:\n    def __hash__(self):\n        return 1\n"),
+            ("L6", "async def f():\n    pass\n"),
+            ("L7", "X = 1.5\n"),
+            ("L7", "def f(x):\n    return x / 2\n"),
+            ("L7", "def f(x):\n    return any(y for y in x)\n"),
+            ("L8", "def f(x):\n    return chr(x)\n"),
+            ("L10", "# " + "a" * 119 + "\n"),
+            ("L10", "#\n" * 400),
+            ("L10", "def f(x):\n" + "    x = 1\n" * 40),
+            ("L14", "# \u00e4\n"),
+            ("L15", "def f(sum):\n    return sum\n"),
+            ("L15", "X = 1\nX = 2\n"),
+            ("L16", "from finestcuts.a import f\n\n\ndef f():\n    pass\n"),
+            ("L17", "def f(law):\n    return law\n"),
+            ("L19", "def f():\n    try:\n        return 1\n    except TypeError:\n        return 2\n"),
+            ("L20", "def f(x, y):\n    return x is y\n"),
+            ("L25", "def f(x):\n    return x.issuperset(())\n"),
+            ("L27", "X = 'a" + chr(37) + "'\n"),
+        )
+        for rule, text in broken:
+            with self.subTest(text[:60]):
+                texts = {"finestcuts.a": text, "finestcuts.b": "def f():\n    pass\n"}
+                self.assertTrue([told for told in problems(texts) if re.search(rf"\b{rule}\b", told)], problems(texts))
+
+
+if __name__ == "__main__":
+    unittest.main()
