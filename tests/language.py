@@ -47,6 +47,9 @@ FORBIDDEN = {
     ast.MatMult: "L7",
 }
 DEFINED = (ast.FunctionDef, ast.ClassDef)
+# What these do to objects that they did not create cannot be seen, so they are to change nothing at all.
+QUIET = {f"__{name}__" for name in "eq repr str len contains getitem lt le gt ge ne bool add sub mul and or".split()}
+CHANGING = set("append clear extend insert pop remove reverse setdefault update sort add discard".split())
 WHOLE = {"any", "all", "min", "max", "sum", "sorted"}
 
 
@@ -103,6 +106,44 @@ def definition_problems(node):
             yield node.lineno, "L4 decorator"
     if node.name.startswith("__") and node.name[2:-2] not in SPECIAL:
         yield node.lineno, "L5 method"
+
+
+def class_problems(node):
+    """What is wrong with the methods of a class, each looked at beside the others."""
+    methods = {part.name: part for part in node.body if isinstance(part, ast.FunctionDef)}
+    if len(methods) < len([part for part in node.body if isinstance(part, ast.FunctionDef)]):
+        yield node.lineno, "L18 defined twice"
+    if "__getitem__" in methods and "__iter__" not in methods:
+        yield node.lineno, "L5 getitem without iter"
+    for name, method in methods.items():
+        if name in QUIET:
+            yield from quiet_problems(method)
+    if "__len__" in methods:
+        for part in ast.walk(methods["__len__"]):
+            if isinstance(part, ast.Return) and not is_length(part.value):
+                yield part.lineno, "L28 len"
+
+
+def is_length(node):
+    """Whether an expression is `len(..)` or a literal."""
+    return isinstance(node, ast.Constant) or isinstance(node, ast.Call) and getattr(node.func, "id", "") == "len"
+
+
+def quiet_problems(method):
+    """What changes something in a method that should change nothing."""
+    for part in ast.walk(method):
+        if isinstance(part, (ast.AugAssign, ast.Delete)):
+            yield part.lineno, "L5 or L28 changes"
+        if isinstance(part, (ast.Attribute, ast.Subscript)) and not isinstance(part.ctx, ast.Load):
+            yield part.lineno, "L5 or L28 changes"
+        if isinstance(part, ast.Call) and getattr(part.func, "attr", "") in CHANGING:
+            yield part.lineno, "L5 or L28 changes"
+
+
+def set_problems(node):
+    """What is wrong with what is gone through: a set has no order."""
+    if isinstance(node.iter, (ast.Set, ast.SetComp)) or getattr(getattr(node.iter, "func", None), "id", "") == "set":
+        yield node.iter.lineno, "L24 set"
 
 
 def bound_names(node):
@@ -170,6 +211,9 @@ def node_problems(node, defined, own):
     yield from name_problems(node)
     if isinstance(node, DEFINED):
         yield from definition_problems(node)
+        yield from class_problems(node) if isinstance(node, ast.ClassDef) else ()
+    elif isinstance(node, (ast.For, ast.comprehension)):
+        yield from set_problems(node)
     elif isinstance(node, ast.ImportFrom):
         yield from import_problems(node, defined)
     elif isinstance(node, ast.Call):

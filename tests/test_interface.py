@@ -14,6 +14,13 @@ PACKAGE = pathlib.Path(__file__).resolve().parent.parent / "finestcuts"
 
 FUNCTIONS = {
     "deeds": {"is_sum": "(value)", "is_deed": "(value)", "do_clash": "(one, other)"},
+    "texts": {"format_system": "(system)", "parse_system": "(text)"},
+    "calls": {
+        "is_call": "(system, value)",
+        "deeds_of": "(system, call)",
+        "perform": "(system, call, store)",
+        "apply": "(deed, item, value, amount)",
+    },
 }
 CLASSES = {
     "errors": {
@@ -27,8 +34,22 @@ CLASSES = {
         **{name: None for name in ("CutError", "InvalidLine", "NotInOrder", "NoSystem", "NoEngine")},
     },
     "kinds": {"Kind": "(name, parameters, steps, unlike=(), backs=False, alone=False, most=6)"},
+    "systems": {"System": "(kinds, most=12)"},
+    "cuttings": {"Cutting": "(system, cuts)"},
 }
-METHODS = {"Kind": ("__init__", "__len__", "__eq__")}
+SIGNS = {
+    "Kind": "init len eq",
+    "System": "init len eq getitem contains add sub",
+    "Cutting": "init len eq iter contains or and sub",
+}
+METHODS = {
+    "Cutting": {
+        "whole": "(system)",
+        "single": "(system)",
+        "pieces": "(self, name)",
+        "is_coarser": "(self, other)",
+    },
+}
 
 
 def listed(table):
@@ -55,8 +76,11 @@ class TestInterface(unittest.TestCase):
             with self.subTest(name):
                 value = self.check(module, name, arguments)
                 self.assertIs(type(value), type)
-                missing = [method for method in METHODS.get(name, ()) if method not in vars(value)]
+                missing = [word for word in SIGNS.get(name, "").split() if f"__{word}__" not in vars(value)]
                 self.assertEqual(missing, [])
+                for method, taken in METHODS.get(name, {}).items():
+                    self.assertIn(method, vars(value))
+                    self.assertEqual(str(inspect.signature(getattr(value, method))), taken)
                 if arguments is not None:
                     self.assertIn("__init__", vars(value))
 
@@ -89,6 +113,14 @@ class TestLanguage(unittest.TestCase):
             ("L3", "for x in (1, 2):\n    pass\n"),
             ("L4", "@f\nclass A:\n    pass\n"),
             ("L5", "class A:\n    def __hash__(self):\n        return 1\n"),
+            ("L5", "class A:\n    def __getitem__(self, at):\n        return at\n"),
+            ("L5", "class A:\n    def __contains__(self, x):\n        self.x = x\n        return True\n"),
+            ("L5", "class A:\n    def __add__(self, x):\n        x.append(self)\n        return x\n"),
+            ("L28", "class A:\n    def __eq__(self, x):\n        n = 1\n        n += 1\n        return n == x\n"),
+            ("L28", "class A:\n    def __len__(self):\n        return self.n\n"),
+            ("L18", "class A:\n    def f(self):\n        pass\n\n    def f(self):\n        pass\n"),
+            ("L24", "def f(x):\n    return [y for y in set(x)]\n"),
+            ("L24", "def f(x):\n    for y in {x, 1}:\n        return y\n"),
             ("L6", "async def f():\n    pass\n"),
             ("L7", "X = 1.5\n"),
             ("L7", "def f(x):\n    return x / 2\n"),
