@@ -81,6 +81,20 @@ def apply(deed, item, value, amount):
     return amount if word == "put" else value
 
 
+def first_values(system, call):
+    """The values of the parameters of a call, and of its locals, ahead of its deeds."""
+    name, values, _, _ = call
+    known = dict(zip(system[name].parameters, values))
+    for local in system[name].local_names:
+        known[local] = 0
+    return known
+
+
+def values_of_locals(system, call, known):
+    """The values of the locals of a call, known having those of its parameters, too."""
+    return {local: known[local] for local in system[call[0]].local_names}
+
+
 def do_deed(deed, item, store, known):
     """Performs a deed: changes the store, or the value of a local in known."""
     word, _, last = deed
@@ -96,13 +110,9 @@ def perform(system, call, store):
     deeds = deeds_of(system, call)
     if not is_store(store):
         raise InvalidStore(store)
-    name, values, _, stop = call
-    kind = system[name]
-    known = dict(zip(kind.parameters, values))
-    for local in kind.local_names:
-        known[local] = 0
     after = without_zeros(store)
-    if stop is None:
+    known = first_values(system, call)
+    if call[3] is None:
         for _, deed, item in deeds:
             do_deed(deed, item, after, known)
-    return (without_zeros(after), {local: known[local] for local in kind.local_names})
+    return (without_zeros(after), values_of_locals(system, call, known))

@@ -51,9 +51,14 @@ def are_alike(one, other):
     return one[2] == other[2] and not one[2][2]
 
 
+def are_clashing(one, other):
+    """Whether two deeds, which are known to be such, clash by kind."""
+    return one[1][0] == other[1][0] and not are_alike(one, other)
+
+
 def do_clash(one, other):
     """Whether two deeds clash by kind; deeds on different tables do not."""
     for deed in (one, other):
         if not is_deed(deed):
             raise InvalidItem(deed)
-    return one[1][0] == other[1][0] and not are_alike(one, other)
+    return are_clashing(one, other)

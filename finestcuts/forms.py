@@ -51,3 +51,8 @@ def is_headed(value, words, size):
 def are_different_names(values):
     """Whether all of a list or tuple of any values are names, none of them twice."""
     return all([is_name(value) for value in values]) and len(set(values)) == len(values)
+
+
+def is_number(value, many):
+    """Whether any value is an integer from 0 to one less than so many."""
+    return type(value) is int and 0 <= value < many

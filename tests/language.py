@@ -15,7 +15,8 @@ BUILTINS = set(
 LIBRARY = {
     "heapq": "heappush heappop heapify heapreplace heappushpop",
     "math": "gcd lcm isqrt comb perm factorial",
-    "itertools": "product combinations permutations chain accumulate pairwise islice zip_longest",
+    # No products: a cutting is iterated over and has a length.
+    "itertools": "chain accumulate pairwise islice zip_longest",
     "collections": "defaultdict deque",
     "__future__": "annotations",
 }
@@ -24,7 +25,7 @@ METHODS = set(
     items join keys ljust lower lstrip partition pop remove replace reverse rfind rjust rpartition rsplit rstrip
     setdefault split splitlines startswith strip update upper values zfill bit_length title capitalize swapcase
     casefold center expandtabs removeprefix removesuffix rindex isascii isdecimal isnumeric istitle isidentifier
-    isprintable encode decode hex translate maketrans sort format add discard appendleft popleft extendleft
+    isprintable encode decode hex translate maketrans format add discard appendleft popleft extendleft
     rotate from_iterable from_bytes""".split()
 )
 SPECIAL = set(
@@ -161,6 +162,9 @@ def call_problems(node, own):
     called = node.func
     if isinstance(called, ast.Attribute) and called.attr not in METHODS | own and not called.attr.startswith("__"):
         yield node.lineno, "L25 method " + called.attr
+    if isinstance(called, ast.Name) and called.id == "reversed":
+        if not isinstance(node.args[0], ast.Call) or getattr(node.args[0].func, "id", "") != "range":
+            yield node.lineno, "L5 reversed"
     takes_generator = any(isinstance(argument, ast.GeneratorExp) for argument in node.args)
     if takes_generator and isinstance(called, ast.Name) and called.id in WHOLE:
         yield node.lineno, "L7 generator expression"

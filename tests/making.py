@@ -80,3 +80,62 @@ class Maker:
             if all(values[one] != values.get(other, other) for one, other in kind.unlike):
                 return (kind.name, tuple(values.values()), choices, stop)
         return None
+
+
+class SmallMaker:
+    """Makes systems that are small enough for searches over all values."""
+
+    def __init__(self, source, parameters=2, kinds=3, steps=3):
+        self.source = source
+        self.most_parameters = parameters
+        self.most_kinds = kinds
+        self.most_steps = steps
+
+    def deed(self, parameters):
+        place = (self.source.choice("mst"), self.source.choice((*parameters, *parameters, 0, 1)))
+        word = self.source.choice(("read", "add", "add", "put", "put", "raise"))
+        return (word, place, "x" if word == "read" else ("sum", self.source.choice((1, 2)), ()))
+
+    def deeds(self, parameters, most):
+        return tuple(self.deed(parameters) for _ in range(self.source.randint(0, most)))
+
+    def step(self, parameters):
+        word = self.source.choice(("choose", "check", *["deed"] * 6))
+        if word == "choose":
+            return ("choose", self.deeds(parameters, 2), self.deeds(parameters, 1))
+        return ("check", "x") if word == "check" else self.deed(parameters)
+
+    def kind(self, name):
+        source = self.source
+        parameters = tuple(source.sample("abc", source.randint(0, self.most_parameters)))
+        steps = tuple(self.step(parameters) for _ in range(source.randint(1, self.most_steps)))
+        pairs = [(one, other) for at, one in enumerate(parameters) for other in parameters[at + 1 :]]
+        pairs.extend((one, value) for one in parameters for value in (0, 1))
+        source.shuffle(pairs)
+        unlike = tuple(pairs[: source.choice((0, 0, 1, 2))])
+        return Kind(name, parameters, steps, unlike, source.random() < 0.5, source.random() < 0.4)
+
+    def system(self):
+        names = self.source.sample(NAMES, self.source.randint(1, self.most_kinds))
+        return System(tuple(self.kind(name) for name in names))
+
+
+def values_for(system, fresh=4):
+    """Enough values for all that calls of a small system can do: its constants, and some others."""
+    return (*system.constants, *range(20, 20 + fresh))
+
+
+def largest_system(alone=(), unlike=True, backs=False, check=False):
+    """A system at all limits: five kinds with eight steps, twelve deeds and four parameters, twelve constants."""
+    kinds = []
+    for at, name in enumerate(NAMES):
+        steps = [("add", ("m", "abcd"[step]), ("sum", step + at, ())) for step in range(4)]
+        for step in range(4):
+            first = ("read", ("m", "abcd"[step]), "x")
+            steps.append(("choose", (first,), (("put", ("m", "abcd"[step - 1]), ("sum", step, ())),)))
+        if check:
+            # One deed less, so that a call can stop ahead of the last steps.
+            steps[7] = ("check", "x")
+        pairs = [("abcd"[step & 3], 3 * at + step if 3 * at + step < 12 else step) for step in range(6)]
+        kinds.append(Kind(name, tuple("abcd"), tuple(steps), tuple(pairs) if unlike else (), backs, name in alone))
+    return System(tuple(kinds))

@@ -1,5 +1,7 @@
 """Objects that callers may hand in where an error is listed, and what else the tests share."""
 
+import unittest
+
 
 class Same:
     """Says that it equals everything, and hides in sets and dicts behind a text."""
@@ -119,3 +121,14 @@ def shown(value):
     if type(value) is int:
         return hex(value)[:20]
     return type(value).__name__
+
+
+class RaisingTestCase(unittest.TestCase):
+    """Looks at errors and at what they keep."""
+
+    def raises(self, error, value, function, *arguments, attribute="value"):
+        with self.subTest(getattr(function, "__name__", ""), value=shown(value)):
+            with self.assertRaises(error) as caught:
+                function(*arguments)
+            self.assertIs(type(caught.exception), error)
+            self.assertIs(getattr(caught.exception, attribute), value)

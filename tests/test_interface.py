@@ -21,6 +21,17 @@ FUNCTIONS = {
         "perform": "(system, call, store)",
         "apply": "(deed, item, value, amount)",
     },
+    "runs": {"all_rows": "(cutting, calls)"},
+    "orders": {
+        **{name: "(run)" for name in ("arrows", "order", "exchanges", "ring")},
+        **{"is_order": "(run, value)", "is_ring": "(run, value)", "exchanged": "(run, position)"},
+    },
+    "ways": {
+        "way": "(system, name, first, last)",
+        "is_way": "(system, name, first, last, value)",
+        "bad_pairs": "(system, name)",
+        "loops": "(system, name)",
+    },
 }
 CLASSES = {
     "errors": {
@@ -36,11 +47,13 @@ CLASSES = {
     "kinds": {"Kind": "(name, parameters, steps, unlike=(), backs=False, alone=False, most=6)"},
     "systems": {"System": "(kinds, most=12)"},
     "cuttings": {"Cutting": "(system, cuts)"},
+    "runs": {"Run": "(cutting, calls, row=())"},
 }
 SIGNS = {
     "Kind": "init len eq",
     "System": "init len eq getitem contains add sub",
     "Cutting": "init len eq iter contains or and sub",
+    "Run": "init len eq rshift call",
 }
 METHODS = {
     "Cutting": {
@@ -49,6 +62,7 @@ METHODS = {
         "pieces": "(self, name)",
         "is_coarser": "(self, other)",
     },
+    "Run": {"left": "(self, number)", "performed": "(self, position)", "__call__": "(self, store)"},
 }
 
 
@@ -136,7 +150,10 @@ class TestLanguage(unittest.TestCase):
             ("L17", "def f(law):\n    return law\n"),
             ("L19", "def f():\n    try:\n        return 1\n    except TypeError:\n        return 2\n"),
             ("L20", "def f(x, y):\n    return x is y\n"),
+            ("L2", "from itertools import product\n"),
+            ("L5", "def f(x):\n    return list(reversed(x))\n"),
             ("L25", "def f(x):\n    return x.issuperset(())\n"),
+            ("L25", "def f(x):\n    x.sort()\n"),
             ("L27", "X = 'a" + chr(37) + "'\n"),
         )
         for rule, text in broken:
