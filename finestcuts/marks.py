@@ -79,6 +79,15 @@ class Points:
         self.nexts = [self.left(point, self.around) for point in self.points]
         self.kept_groups = {}
 
+    def number_of(self, value):
+        """The number of any value that is a point, otherwise None."""
+        if type(value) is not tuple or len(value) != 3:
+            return None
+        name, deed, mark = value
+        if type(name) is not str or type(deed) is not int or type(mark) not in (int, str):
+            return None
+        return self.numbers.get(value)
+
     def deed(self, key):
         """The deed with this name of a kind and this number."""
         name, deed = key

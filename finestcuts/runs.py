@@ -82,7 +82,7 @@ def do_piece(deeds, store, known, amounts):
 def take_back(deeds, store, amounts):
     """Takes adds back; takes their values from the end of the amounts."""
     for _, item in deeds:
-        store[item] = store.get(item, 0) - amounts.pop()
+        store[item] = store[item] - amounts.pop()
 
 
 class Run:

@@ -78,6 +78,20 @@ def row_pieces(cutting, calls, row):
     return [pieces[number].pop(0) for number in row]
 
 
+def meetings(cutting, calls):
+    """For each two calls the list of pairs of pieces, told by their numbers, that do not commute."""
+    pieces = [pieces_of(cutting, call) for call in calls]
+    return {
+        (one, other): [
+            (at, place)
+            for at, (_, deeds) in enumerate(pieces[one])
+            for place, (_, acts) in enumerate(pieces[other])
+            if any(do_meet(*pair) for pair in itertools.product(deeds, acts))
+        ]
+        for one, other in itertools.permutations(range(len(calls)), 2)
+    }
+
+
 def run_over(cutting, calls, row, store):
     """The store after a run and the locals of its calls."""
     store = dict(store)
@@ -107,36 +121,45 @@ def run_over(cutting, calls, row, store):
     return {item: value for item, value in store.items() if value}, told
 
 
+def timely_at(row, place, counts, alone):
+    """Whether each other alone call has none or all of its pieces ahead of a piece of an alone call."""
+    others = [other for other in range(len(counts)) if alone[other] and other != row[place]]
+    return not alone[row[place]] or all(row[:place].count(other) in (0, counts[other]) for other in others)
+
+
 def is_timely(cutting, calls, row):
     """Whether a row is timely, looked at at each place."""
     counts = [len(pieces_of(cutting, call)) for call in calls]
     alone = [kind_of(cutting.system, call[0]).alone for call in calls]
-    for place, number in enumerate(row):
-        for other, count in enumerate(counts):
-            if alone[number] and alone[other] and other != number:
-                if row[:place].count(other) not in (0, count):
-                    return False
-    return True
+    return all(timely_at(row, place, counts, alone) for place in range(len(row)))
 
 
 def rows_of(cutting, calls):
     """All timely rows with which a run is over, ascending."""
     rows = [()]
     counts = [len(pieces_of(cutting, call)) for call in calls]
-    for _ in range(sum(counts)):
+    alone = [kind_of(cutting.system, call[0]).alone for call in calls]
+    for place in range(sum(counts)):
         rows = [(*row, number) for row in rows for number, count in enumerate(counts) if row.count(number) < count]
-        rows = [row for row in rows if is_timely(cutting, calls, row)]
+        rows = [row for row in rows if timely_at(row, place, counts, alone)]
     return rows
 
 
-def arrows_of(cutting, calls, row):
-    """The set of all arrows, found from pairs of pieces."""
-    pieces = row_pieces(cutting, calls, row)
-    found = set()
-    for at, later in itertools.combinations(range(len(row)), 2):
-        if row[at] != row[later] and any(do_meet(*pair) for pair in itertools.product(pieces[at][1], pieces[later][1])):
-            found.add((row[at], row[later]))
+def arrows_in(row, met):
+    """The set of all arrows of a row."""
+    done, found = {}, set()
+    for place, number in enumerate(row):
+        done.setdefault(number, []).append(place)
+    for (one, other), pairs in met.items():
+        ends = (len(done.get(one, ())), len(done.get(other, ())))
+        if any(at < ends[0] and to < ends[1] and done[one][at] < done[other][to] for at, to in pairs):
+            found.add((one, other))
     return found
+
+
+def arrows_of(cutting, calls, row):
+    """The set of all arrows of a run, found from pairs of pieces."""
+    return arrows_in(row, meetings(cutting, calls))
 
 
 def has_ring(links, many):

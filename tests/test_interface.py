@@ -32,6 +32,12 @@ FUNCTIONS = {
         "bad_pairs": "(system, name)",
         "loops": "(system, name)",
     },
+    "finest": {
+        **{name: "(cutting)" for name in ("is_right", "wrong_cuts", "wrong_run")},
+        "finest": "(system)",
+    },
+    "papers": {"right_paper": "(cutting)", "is_right_paper": "(cutting, value)"},
+    "freeing": {"without": "(cutting)", "promised": "(cutting, pairs)"},
 }
 CLASSES = {
     "errors": {
@@ -48,12 +54,14 @@ CLASSES = {
     "systems": {"System": "(kinds, most=12)"},
     "cuttings": {"Cutting": "(system, cuts)"},
     "runs": {"Run": "(cutting, calls, row=())"},
+    "costs": {"Costs": "(durations=None, weights=None, price=0)"},
 }
 SIGNS = {
     "Kind": "init len eq",
     "System": "init len eq getitem contains add sub",
     "Cutting": "init len eq iter contains or and sub",
     "Run": "init len eq rshift call",
+    "Costs": "init eq call",
 }
 METHODS = {
     "Cutting": {
@@ -63,7 +71,9 @@ METHODS = {
         "is_coarser": "(self, other)",
     },
     "Run": {"left": "(self, number)", "performed": "(self, position)", "__call__": "(self, store)"},
+    "Costs": {"__call__": "(self, kind, chain)"},
 }
+PROPERTIES = {"Costs": "durations weights"}
 
 
 def listed(table):
@@ -95,6 +105,8 @@ class TestInterface(unittest.TestCase):
                 for method, taken in METHODS.get(name, {}).items():
                     self.assertIn(method, vars(value))
                     self.assertEqual(str(inspect.signature(getattr(value, method))), taken)
+                for word in PROPERTIES.get(name, "").split():
+                    self.assertIsInstance(vars(value)[word], property)
                 if arguments is not None:
                     self.assertIn("__init__", vars(value))
 

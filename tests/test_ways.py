@@ -229,6 +229,24 @@ class TestParameters(WayTestCase):
         system = system_of("kind pay a\n  unlike a 5\n  alone\n  put m[a] 1\n  put s[5] 1\nend", same)
         self.fewest(system, "pay", 0, 1, None)
 
+    def test_other_values_that_are_unlike_each_other(self):
+        # One call leads from the first value to another one, the next one from there to a third one.
+        text = "kind pay a b\n{}  alone\n  put m[a] 1\n  put s[b] 1\nend"
+        first = "kind look a b\n  unlike a b\n  read m[a] x\n  put t[b] 1\nend"
+        second = "kind both a b\n  unlike a b\n  read t[a] x\n  read s[b] x\nend"
+        system = system_of(text.format("  unlike a b\n"), first, second)
+        (one, other), calls = self.fewest(system, "pay", 0, 1, 2)
+        self.assertEqual(len({one, other, calls[0][1][1]}), 3)
+        self.fewest(system_of(text.format(""), first, second), "pay", 0, 1, 2)
+        self.fewest(system_of(text.format("").replace("[b]", "[a]"), first, second), "pay", 0, 1, 2)
+        # With an integer at one of the places there are fewer values, but still enough.
+        system = system_of(text.format("").replace("[b]", "[1]"), first, second)
+        self.fewest(system, "pay", 0, 1, 2)
+        other = second.replace("t[a]", "t[1]")
+        self.fewest(system_of(text.format("").replace("[b]", "[1]"), first, other), "pay", 0, 1, 2)
+        other = other.replace("unlike a b", "unlike b 1")
+        self.fewest(system_of(text.format("").replace("[b]", "[1]"), first, other), "pay", 0, 1, None)
+
     def test_other_parameters_have_values_too(self):
         text = "kind pay a b c d\n  unlike a b\n  unlike b c\n  unlike a c\n  unlike c d\n  unlike d 1\n  unlike d 2\n"
         text += "  put m[d] 1\n  check x\nend"
