@@ -14,7 +14,7 @@ def subsets(values):
     found = [()]
     for value in values:
         found = found + [(*chosen, value) for chosen in found]
-    return sorted(found, key=lambda chosen: (len(chosen), chosen))
+    return [chosen for _, chosen in sorted([(len(chosen), chosen) for chosen in found])]
 
 
 def is_part(one, other):

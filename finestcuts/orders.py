@@ -126,8 +126,8 @@ def ring(run):
     links = {link: True for link in arrows(run)}
     many = len(run.calls)
     found = [ring_from(start, many, links) for start in range(many)]
-    rings = [path for path in found if path is not None]
-    return min(rings, key=lambda path: (len(path), path)) if rings else None
+    rings = sorted([(len(path), path) for path in found if path is not None])
+    return rings[0][1] if rings else None
 
 
 def is_ring(run, value):
