@@ -57,7 +57,7 @@ def joined(sets):
     """The set of the members of all sets of a list."""
     found = 0
     for members in sets:
-        found |= members
+        found = found | members
     return found
 
 
@@ -71,12 +71,12 @@ class Points:
         self.of_mark = {mark: 0 for mark in (*system.constants, FIRST, OTHER)}
         self.of_deed = {(name, deed): 0 for name, deed, _ in self.points}
         for at, (name, deed, mark) in enumerate(self.points):
-            self.of_mark[mark] |= 1 << at
-            self.of_deed[(name, deed)] |= 1 << at
+            self.of_mark[mark] = self.of_mark[mark] | 1 << at
+            self.of_deed[(name, deed)] = self.of_deed[(name, deed)] | 1 << at
         self.of_alone = joined([self.of_deed[key] for key in self.of_deed if system[key[0]].alone])
         self.clashing = {key: self.clashes_of(key) for key in self.of_deed}
         self.around = {key: self.clashing[key] & self.marked_like(key) for key in self.of_deed}
-        self.nexts = [self.left(point, self.around) for point in self.points]
+        self.nexts = [self.left_from(point, self.around) for point in self.points]
         self.kept_groups = {}
 
     def number_of(self, value):
@@ -121,7 +121,7 @@ class Points:
             return ~self.of_mark[mark]
         return -1
 
-    def left(self, point, table):
+    def left_from(self, point, table):
         """What a table has for the deeds that a call can do that does one at a point, with fitting marks."""
         name, deed, _ = point
         kind = self.system[name]
@@ -142,7 +142,7 @@ class Points:
         fresh = members
         while fresh:
             fresh = self.following(fresh) & allowed & ~found
-            found |= fresh
+            found = found | fresh
         return found
 
     def groups(self, kind):
@@ -164,7 +164,7 @@ class Points:
         while rest:
             group = self.closed(rest & -rest, allowed)
             found.append((group, self.following(group)))
-            rest &= ~group
+            rest = rest & ~group
         return found
 
     def named(self, point):
@@ -179,8 +179,8 @@ class Points:
         further = self.following(found)
         for group, behind in self.groups(kind):
             if group & further:
-                found |= group
-                further |= behind
+                found = found | group
+                further = further | behind
         return (found & self.named(point), further & self.named(point))
 
     def ends(self, point, deed):

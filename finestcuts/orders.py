@@ -103,21 +103,27 @@ def exchanged(run, position):
     return Run(run.cutting, run.calls, row[:position] + swapped + row[position + 2 :])
 
 
+def longer_paths(paths, least, many, links, seen):
+    """The list of the paths, each with one call more that is not among those seen; marks these calls as seen."""
+    # The paths come in list order, so that the first one to each call is the first of the shortest.
+    longer = []
+    for path in paths:
+        for number in range(least, many):
+            if (path[-1], number) in links and number not in seen:
+                seen[number] = True
+                longer.append((*path, number))
+    return longer
+
+
 def ring_from(start, many, links):
     """Of the shortest rings whose first and least call is this one the first, or None."""
     paths = [(start,)]
     seen = {start: True}
     while paths:
-        longer = []
-        # The paths come in list order, so that the first one to each call is the first of the shortest.
-        for path in paths:
-            if (path[-1], start) in links:
-                return path
-            for number in range(start + 1, many):
-                if (path[-1], number) in links and number not in seen:
-                    seen[number] = True
-                    longer.append((*path, number))
-        paths = longer
+        closed = [path for path in paths if (path[-1], start) in links]
+        if closed:
+            return closed[0]
+        paths = longer_paths(paths, start + 1, many, links, seen)
     return None
 
 

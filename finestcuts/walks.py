@@ -25,7 +25,8 @@ class Spare:
 def layers_to(points, start, goal):
     """The points at which first, second .. calls are entered, up to calls from which a goal follows, or None."""
     allowed = points.allowed(points.system[start[0]]) & points.named(start)
-    found = fresh = points.entered(start) & allowed
+    fresh = points.entered(start) & allowed
+    found = fresh
     layers = []
     while fresh:
         layers.append(fresh)
@@ -33,7 +34,7 @@ def layers_to(points, start, goal):
         if further & goal:
             return layers
         fresh = further & allowed & ~found
-        found |= fresh
+        found = found | fresh
     return None
 
 
@@ -46,7 +47,7 @@ def step_to(points, members, goal):
     """One of the points of a set, where calls from it can be left ahead of a goal, and the goal that is entered."""
     at = [at for at in bits(members) if points.nexts[at] & goal][0]
     entered = points.points[at]
-    lefts = [points.points[place] for place in bits(points.left(entered, points.of_deed))]
+    lefts = [points.points[place] for place in bits(points.left_from(entered, points.of_deed))]
     left = [point for point in lefts if points.entered(point) & goal][0]
     return (entered, left, least_member(points, points.entered(left) & goal))
 

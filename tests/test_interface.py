@@ -8,6 +8,7 @@ import types
 import unittest
 import warnings
 
+from flow import flow_problems
 from language import problems
 
 PACKAGE = pathlib.Path(__file__).resolve().parent.parent / "finestcuts"
@@ -123,6 +124,7 @@ class TestLanguage(unittest.TestCase):
         files = [path for path in PACKAGE.glob("*.py") if path.name != "__init__.py"]
         texts = {f"finestcuts.{path.stem}": path.read_text(encoding="utf-8") for path in files}
         self.assertEqual(problems(texts), [])
+        self.assertEqual(flow_problems(texts), [])
         self.assertGreater(len(texts), 2)
         with warnings.catch_warnings():
             warnings.simplefilter("error")
@@ -172,6 +174,34 @@ class TestLanguage(unittest.TestCase):
             with self.subTest(text[:60]):
                 texts = {"finestcuts.a": text, "finestcuts.b": "def f():\n    pass\n"}
                 self.assertTrue([told for told in problems(texts) if re.search(rf"\b{rule}\b", told)], problems(texts))
+
+    def test_broken_rules_of_what_is_called_are_found(self):
+        head = "class A:\n    def __rshift__(self, x):\n        return self.f(x)\n\n    def f(self, x):\n"
+        made = "class A:\n    def __eq__(self, x):\n        return B(x)\n\n\nclass B:\n    def __init__(self, x):\n"
+        found = (
+            head + "        return g(x)\n\n\ndef g(x):\n    n = 0\n    n |= x\n    return n\n",
+            head + "        return 1\n\n\nclass B:\n    def f(self, x):\n        self.x = x\n",
+            head + "        x[0] = 1\n        return x\n",
+            head + "        y = x\n        y.append(1)\n        return y\n",
+            "class A:\n    @property\n    def f(self):\n        self.n = 1\n        return 1\n",
+            made + "        x.n = 1\n",
+            "def f(x):\n    y = z = x\n    y |= z\n",
+            "def f(x):\n    for y in x:\n        z = []\n        z.append(y)\n        x = z\n",
+            "def f(x):\n    for y in x:\n        x.append(y)\n",
+            "def f(x):\n    for y in enumerate(x.y):\n        x.y[0] = y\n",
+        )
+        right = (
+            head + "        return g(x)\n\n\ndef g(x):\n    n = 0\n    n = n | x\n    n += 1\n    return n\n",
+            head + "        y = [*x]\n        y.append(1)\n        return y\n",
+            "class A:\n    def __irshift__(self, x):\n        self.n = x\n        return self\n",
+            made + "        self.n = x\n",
+            "def f(x):\n    for y in list(x):\n        x.append(y)\n",
+            "def f(x):\n    for y in enumerate(x.y):\n        x.z[0] = y\n",
+        )
+        for texts, expected in ((found, True), (right, False)):
+            for text in texts:
+                with self.subTest(text):
+                    self.assertIs(bool(flow_problems({"finestcuts.a": text})), expected)
 
 
 if __name__ == "__main__":
