@@ -7,14 +7,15 @@ from finestcuts.pieces import piece_count, piece_of_step
 from finestcuts.runs import Run
 from finestcuts.walks import Spare, nearest_walk, told_walk, values_of_call
 from finestcuts.wrongs import (
-    checks_behind,
-    deeds_ahead,
+    checks_outside,
+    deeds_in,
     found_wrong,
     is_between,
     left_deeds,
     positions_of,
     retaken_deeds,
     step_of,
+    steps_ahead,
 )
 
 
@@ -84,18 +85,18 @@ def walk_over_cut(points, kind, positions):
     return best
 
 
-def walk_to_retaken(points, kind, position):
-    """A walk from a deed ahead of a cut to an add ahead of it that is taken back, or None."""
+def walk_to_retaken(points, kind, steps):
+    """A walk from a deed of some steps to an add of these that is taken back, or None."""
     best = None
-    for first in deeds_ahead(kind, position):
-        best = shorter_walk(best, nearest_walk(points, kind, first, retaken_deeds(kind, position)))
+    for first in deeds_in(kind, steps):
+        best = shorter_walk(best, nearest_walk(points, kind, first, retaken_deeds(kind, steps)))
     return best
 
 
-def stopped_run(cutting, kind, position):
-    """The run of one call that stops behind a cut and leaves a deed behind."""
-    stop = checks_behind(kind, position)[0]
-    deed = left_deeds(kind, position)[0]
+def stopped_run(cutting, kind, steps):
+    """The run of one call that does some steps, then stops and leaves a deed behind."""
+    stop = checks_outside(kind, steps)[0]
+    deed = left_deeds(kind, steps)[0]
     values = values_of_call(kind, {}, Spare(cutting.system.constants))
     call = (kind.name, values, choices_for(kind, (deed,)), stop)
     return Run(cutting, (call,), (0,) * piece_count(cutting, call))
@@ -117,7 +118,7 @@ def wrong_run(cutting):
     # No cut lies within a bad pair, so that a call has to stop.
     name, position = wrong[0]
     kind = cutting.system[name]
-    if left_deeds(kind, position):
-        return stopped_run(cutting, kind, position)
-    walk = walk_to_retaken(points, kind, position)
-    return run_of_walk(cutting, walk, checks_behind(kind, position)[0])
+    steps = steps_ahead(position)
+    if left_deeds(kind, steps):
+        return stopped_run(cutting, kind, steps)
+    return run_of_walk(cutting, walk_to_retaken(points, kind, steps), checks_outside(kind, steps)[0])

@@ -3,23 +3,11 @@
 from finestcuts.errors import InvalidCuts
 from finestcuts.finest import need_cutting
 from finestcuts.kinds import Kind, is_unlike_pair
+from finestcuts.subsets import is_part, subsets
 from finestcuts.systems import System
 from finestcuts.wrongs import found_wrong
 
 MOST_PAIRS = 8
-
-
-def subsets(values):
-    """The list of all ascending tuples of ascending values, the shorter ones ahead, each length in list order."""
-    found = [()]
-    for value in values:
-        found = found + [(*chosen, value) for chosen in found]
-    return [chosen for _, chosen in sorted([(len(chosen), chosen) for chosen in found])]
-
-
-def is_part(one, other):
-    """Whether all members of the one are in the other."""
-    return all([member in other for member in one])
 
 
 def is_right_without(cutting, names):

@@ -3,7 +3,7 @@
 from finestcuts.errors import InvalidCutting
 from finestcuts.finest import is_right, need_cutting
 from finestcuts.marks import Points, bits, joined
-from finestcuts.wrongs import deeds_ahead, is_between, left_deeds, positions_of, retaken_deeds
+from finestcuts.wrongs import deeds_in, is_between, left_deeds, positions_of, retaken_deeds, steps_ahead
 
 
 def heads_of(points, cutting):
@@ -12,7 +12,7 @@ def heads_of(points, cutting):
     return [
         start
         for kind in system.kinds
-        for deed in deeds_ahead(kind, max(positions_of(kind, cutting.cuts), default=0))
+        for deed in deeds_in(kind, steps_ahead(max(positions_of(kind, cutting.cuts), default=0)))
         for start in points.starts(kind.name, deed)
     ]
 
@@ -24,14 +24,15 @@ def barred(points, cutting, head):
     lasts = []
     for position in positions_of(kind, cutting.cuts):
         lasts.extend([last for last in range(len(kind.deeds)) if is_between(kind, position, first, last)])
-        if first in deeds_ahead(kind, position):
-            lasts.extend(retaken_deeds(kind, position))
+        steps = steps_ahead(position)
+        if first in deeds_in(kind, steps):
+            lasts.extend(retaken_deeds(kind, steps))
     return joined([points.ends(head, last) for last in lasts])
 
 
 def leaves_nothing(cutting):
     """Whether no cut is wrong because of deeds that may not be there."""
-    return not any([left_deeds(cutting.system[name], position) for name, position in cutting.cuts])
+    return not any([left_deeds(cutting.system[name], steps_ahead(position)) for name, position in cutting.cuts])
 
 
 def right_paper(cutting):

@@ -13,27 +13,34 @@ def step_of(kind, deed):
     return kind.spots[deed][0]
 
 
-def deeds_ahead(kind, position):
-    """The list of the deeds of the steps ahead of a cut."""
-    return [deed for deed in range(len(kind.deeds)) if step_of(kind, deed) < position]
+def steps_ahead(position):
+    """The tuple of the steps ahead of a cut."""
+    return tuple(range(position))
 
 
-def adds_ahead(kind, position):
-    """The list of the adds of the steps ahead of a cut."""
-    return [deed for deed in deeds_ahead(kind, position) if kind.deeds[deed][0] == "add"]
+def deeds_in(kind, steps):
+    """The list of the deeds of some steps of a kind."""
+    return [deed for deed in range(len(kind.deeds)) if step_of(kind, deed) in steps]
 
 
-def checks_behind(kind, position):
-    """The list of the checks at a cut and behind it."""
-    return [step for step in kind.checks if step >= position]
+def checks_outside(kind, steps):
+    """The list of the checks that are not among some steps of a kind."""
+    return [step for step in kind.checks if step not in steps]
 
 
-def left_deeds(kind, position):
-    """The list of the deeds ahead of a cut that a call leaves behind if it stops behind the cut."""
-    if not checks_behind(kind, position):
+def left_deeds(kind, steps):
+    """The list of the deeds that a call leaves behind if it does these steps first and then stops."""
+    if not checks_outside(kind, steps):
         return []
     words = ("read", "add") if kind.backs else ("read",)
-    return [deed for deed in deeds_ahead(kind, position) if kind.deeds[deed][0] not in words]
+    return [deed for deed in deeds_in(kind, steps) if kind.deeds[deed][0] not in words]
+
+
+def retaken_deeds(kind, steps):
+    """The list of the adds that a call takes back if it does these steps first and then stops."""
+    if not kind.backs or not checks_outside(kind, steps):
+        return []
+    return [deed for deed in deeds_in(kind, steps) if kind.deeds[deed][0] == "add"]
 
 
 def is_between(kind, position, first, last):
@@ -41,20 +48,16 @@ def is_between(kind, position, first, last):
     return step_of(kind, first) < position <= step_of(kind, last)
 
 
-def retaken_deeds(kind, position):
-    """The list of the adds ahead of a cut that a call takes back if it stops behind the cut."""
-    return adds_ahead(kind, position) if kind.backs and checks_behind(kind, position) else []
-
-
-def is_wrong(kind, position, pairs):
-    """Whether a cut is wrong, pairs being those of the deeds of its kind with ways between them."""
-    if left_deeds(kind, position):
-        return True
-    if any([is_between(kind, position, first, last) for first, last in pairs]):
-        return True
-    # No way leads over the cut, so that those from or to a deed ahead of it have both ends there.
-    retaken = retaken_deeds(kind, position)
-    return any([first in retaken or last in retaken for first, last in pairs])
+def is_free(kind, steps, pairs):
+    """Whether some steps can be cut off, pairs being those of the deeds of their kind with ways between them."""
+    if left_deeds(kind, steps):
+        return False
+    inside = deeds_in(kind, steps)
+    if any([(first in inside) != (last in inside) for first, last in pairs]):
+        return False
+    # No way leads out of these steps, so that those from or to a deed of them have both ends there.
+    retaken = retaken_deeds(kind, steps)
+    return not any([first in retaken or last in retaken for first, last in pairs])
 
 
 def found_wrong(system, cuts):
@@ -64,5 +67,6 @@ def found_wrong(system, cuts):
     for kind in system.kinds:
         positions = positions_of(kind, cuts)
         pairs = loops_of(points, kind) if positions else []
-        found.extend([(kind.name, position) for position in positions if is_wrong(kind, position, pairs)])
+        wrong = [position for position in positions if not is_free(kind, steps_ahead(position), pairs)]
+        found.extend([(kind.name, position) for position in wrong])
     return sorted(found)

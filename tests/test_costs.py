@@ -1,6 +1,5 @@
 """Points 2 and 31 to 33: what chains of steps cost, and which tuples are chains."""
 
-import itertools
 import random
 import types
 import unittest
@@ -11,6 +10,7 @@ from finestcuts.kinds import Kind
 from finestcuts.texts import parse_system
 from making import Maker
 from objects import NAMES, NO_NAMES, STRANGE, Broken, Posing, RaisingTestCase, Same, shown
+from orderings import all_chains, deeds_in, is_chain, must_keep
 
 PAY = parse_system(
     """kind pay a b
@@ -44,52 +44,6 @@ end"""
 def kind_of(*steps, head="pay a b", unlike=""):
     lines = [f"kind {head}", *unlike.splitlines(), *[f"  {step}" for step in steps], "end"]
     return parse_system("\n".join(lines))["pay"]
-
-
-def all_chains(many):
-    """All ways to put steps into a row of ascending pieces."""
-    found = set()
-    for steps in itertools.permutations(range(many)):
-        for flags in itertools.product((True, False), repeat=many - 1):
-            pieces = [[steps[0]]]
-            for step, joined in zip(steps[1:], flags, strict=True):
-                if joined:
-                    pieces[-1].append(step)
-                else:
-                    pieces.append([step])
-            if all(piece == sorted(piece) for piece in pieces):
-                found.add(tuple(tuple(piece) for piece in pieces))
-    return sorted(found)
-
-
-def deeds_in(step):
-    return [] if step[0] == "check" else list(step[1] + step[2]) if step[0] == "choose" else [step]
-
-
-def must_keep(kind, one, other):
-    """Whether two steps must keep their order, as the document lists the reasons."""
-    deeds, acts = deeds_in(one), deeds_in(other)
-    for deed, act in itertools.product(deeds, acts):
-        same_word = deed[0] == act[0] and (deed[0] != "put" or (deed[2] == act[2] and deed[2][2] == ()))
-        if deed[1][0] == act[1][0] and not same_word:
-            first, second = deed[1][1], act[1][1]
-            ints = type(first) is int and type(second) is int
-            unlike = (first, second) in kind.unlike or (second, first) in kind.unlike
-            if first == second or not ints and not unlike:
-                return True
-    reads, more = [{deed[2] for deed in rows if deed[0] == "read"} for rows in (deeds, acts)]
-    named, also = [{name for deed in rows if deed[0] != "read" for _, name in deed[2][2]} for rows in (deeds, acts)]
-    if reads & also or named & more or reads & more:
-        return True
-    checks = [step[0] == "check" for step in (one, other)]
-    return all(checks) or checks[0] and bool(more) or checks[1] and bool(reads)
-
-
-def is_chain(kind, chain):
-    """Whether pieces with all steps keep the order of those that must."""
-    place = {step: at for at, piece in enumerate(chain) for step in piece}
-    pairs = itertools.combinations(range(len(kind)), 2)
-    return all(place[u] <= place[v] for u, v in pairs if must_keep(kind, kind.steps[u], kind.steps[v]))
 
 
 class CostTestCase(RaisingTestCase):

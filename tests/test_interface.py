@@ -39,6 +39,15 @@ FUNCTIONS = {
     },
     "papers": {"right_paper": "(cutting)", "is_right_paper": "(cutting, value)"},
     "freeing": {"without": "(cutting)", "promised": "(cutting, pairs)"},
+    "chains": {
+        "keeps": "(kind)",
+        "is_chain": "(kind, value)",
+        "free_sets": "(system, name)",
+        **{name: "(system, name, costs)" for name in ("cheapest", "heights")},
+        "is_heights": "(system, name, costs, value)",
+        "ordered": "(system, chains)",
+    },
+    "changes": {"broken": "(cutting, kind)"},
 }
 CLASSES = {
     "errors": {
@@ -56,6 +65,8 @@ CLASSES = {
     "cuttings": {"Cutting": "(system, cuts)"},
     "runs": {"Run": "(cutting, calls, row=())"},
     "costs": {"Costs": "(durations=None, weights=None, price=0)"},
+    "changes": {"Design": "(cutting)"},
+    "engines": {"Engine": "(cutting, store=None)"},
 }
 SIGNS = {
     "Kind": "init len eq",
@@ -63,6 +74,7 @@ SIGNS = {
     "Cutting": "init len eq iter contains or and sub",
     "Run": "init len eq rshift call",
     "Costs": "init eq call",
+    "Engine": "init eq irshift",
 }
 METHODS = {
     "Cutting": {
@@ -73,8 +85,18 @@ METHODS = {
     },
     "Run": {"left": "(self, number)", "performed": "(self, position)", "__call__": "(self, store)"},
     "Costs": {"__call__": "(self, kind, chain)"},
+    "Design": {
+        **{name: "(self)" for name in ("refine", "undo", "trial")},
+        **{name: "(self, cuts)" for name in ("cut", "join")},
+        **{"add": "(self, kind)", "drop": "(self, name)", "tried": "(self, kinds)"},
+    },
+    "Engine": {
+        **{name: "(self)" for name in ("crash", "finish", "able", "copy")},
+        **{name: "(self, number)" for name in ("lock", "commit", "leave")},
+        "begin": "(self, call)",
+    },
 }
-PROPERTIES = {"Costs": "durations weights"}
+PROPERTIES = {"Costs": "durations weights", "Engine": "store run marks locks"}
 
 
 def listed(table):
