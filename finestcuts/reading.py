@@ -1,4 +1,4 @@
-"""How places, sums and deeds are read, and a reader that goes through the lines of a text.
+"""How places, sums, deeds and calls are read, and a reader that goes through the lines of a text.
 
 The functions that read words also take some that are not written as they should be, and put
 None, or the word as it stands, in place of what they cannot read. Whoever calls them looks
@@ -7,14 +7,15 @@ at the form of what was read, and compares how it would be written with what was
 
 from finestcuts.deeds import is_deed
 from finestcuts.errors import ParseError
+from finestcuts.forms import is_name
 from finestcuts.writing import write_deed
 
 
-def read_integer(word):
-    """The integer of at most 100 digits that is written like this, or None."""
+def read_integer(word, most=100):
+    """The integer of at most so many digits that is written like this, or None."""
     digits = word.removeprefix("-")
     # Python refuses to read numbers of thousands of digits, hence the look at their length.
-    if not 1 <= len(digits) <= 100 or not all(["0" <= digit <= "9" for digit in digits]):
+    if not 1 <= len(digits) <= most or not all(["0" <= digit <= "9" for digit in digits]):
         return None
     number = int(word)
     return number if str(number) == word else None
@@ -56,6 +57,27 @@ def read_deed(text):
     word, _, rest = text.partition(" ")
     place, _, last = rest.partition(" ")
     return (word, read_place(place), last if word == "read" else read_sum(last))
+
+
+def read_numbers(words, most):
+    """The tuple of the integers of at most so many digits that are written like this, or None."""
+    numbers = tuple([read_integer(word, most) for word in words])
+    return None if None in numbers else numbers
+
+
+def read_call(text, most):
+    """The tuple of a name, integers, integers, and an integer or None that is written like this, or None.
+
+    These are separated by semicolons, and the integers have at most so many digits each.
+    """
+    parts = [[word for word in part.split(" ") if word] for part in text.split(";")]
+    if len(parts) != 4 or len(parts[0]) != 1 or not is_name(parts[0][0]):
+        return None
+    values, choices = read_numbers(parts[1], most), read_numbers(parts[2], most)
+    stops = (None,) if parts[3] == ["-"] else read_numbers(parts[3], most)
+    if values is None or choices is None or stops is None or len(stops) != 1:
+        return None
+    return (parts[0][0], values, choices, stops[0])
 
 
 class Reader:

@@ -72,17 +72,42 @@ def pieces_in_row(run):
 
 
 def do_piece(deeds, store, known, amounts):
-    """Performs the deeds of a piece; puts the values of the sums of its adds behind the amounts."""
+    """Performs the deeds of a piece; puts the values of the sums of its adds behind the amounts.
+
+    Returns the tuple of the values that its reads got.
+    """
+    got = []
     for deed, item in deeds:
         if deed[0] == "add":
             amounts.append(amount_of(deed[2], known))
+        if deed[0] == "read":
+            got.append(store.get(item, 0))
         do_deed(deed, item, store, known)
+    return tuple(got)
 
 
 def take_back(deeds, store, amounts):
     """Takes adds back; takes their values from the end of the amounts."""
     for _, item in deeds:
-        store[item] = store[item] - amounts.pop()
+        store[item] = store.get(item, 0) - amounts.pop()
+
+
+def do_row(run, store):
+    """Performs all pieces of a run, which changes the store.
+
+    Returns the list of what is known of the locals of each call, and the list of what each piece has read.
+    """
+    known = [first_values(run.cutting.system, call) for call in run.calls]
+    added = [[] for _ in run.calls]
+    got = []
+    for number, (is_back, deeds) in zip(run.row, pieces_in_row(run)):
+        if is_back:
+            # All back pieces together take the adds back in just the opposite order.
+            take_back(deeds, store, added[number])
+            got.append(())
+        else:
+            got.append(do_piece(deeds, store, known[number], added[number]))
+    return (known, got)
 
 
 class Run:
@@ -124,14 +149,7 @@ class Run:
             raise InvalidStore(store)
         system = self.cutting.system
         after = without_zeros(store)
-        known = [first_values(system, call) for call in self.calls]
-        added = [[] for _ in self.calls]
-        for number, (is_back, deeds) in zip(self.row, pieces_in_row(self)):
-            if is_back:
-                # All back pieces together take the adds back in just the opposite order.
-                take_back(deeds, after, added[number])
-            else:
-                do_piece(deeds, after, known[number], added[number])
+        known, _ = do_row(self, after)
         told = [values_of_locals(system, call, values) for call, values in zip(self.calls, known)]
         return (without_zeros(after), told)
 
@@ -147,13 +165,20 @@ class Run:
         )
 
 
+def next_numbers(left, counts, flags):
+    """The ascending list of the calls whose next pieces may come next in a timely row."""
+    begun = [number for number, flag in enumerate(flags) if flag and 0 < left[number] < counts[number]]
+    return [
+        number
+        for number in range(len(counts))
+        if left[number] > 0 and (not flags[number] or begun in ([], [number]))
+    ]
+
+
 def number_from(least, left, counts, flags):
     """The least call from this number on that may be the next one in a timely row, or None."""
-    begun = [number for number, flag in enumerate(flags) if flag and 0 < left[number] < counts[number]]
-    for number in range(least, len(counts)):
-        if left[number] > 0 and (not flags[number] or begun in ([], [number])):
-            return number
-    return None
+    numbers = [number for number in next_numbers(left, counts, flags) if number >= least]
+    return numbers[0] if numbers else None
 
 
 def all_rows(cutting, calls):

@@ -1,4 +1,4 @@
-"""How places, sums and deeds are written."""
+"""How places, sums and deeds are written, and numbers, cuts and the items of stores."""
 
 
 def write_place(place):
@@ -36,3 +36,18 @@ def write_deed(deed):
     word, place, last = deed
     shown = last if word == "read" else write_sum(last)
     return f"{word} {write_place(place)} {shown}"
+
+
+def write_numbers(numbers):
+    """The text of integers."""
+    return " ".join([str(number) for number in numbers])
+
+
+def write_cuts(cuts):
+    """The text of cuts."""
+    return " ".join([f"{name}:{position}" for name, position in cuts])
+
+
+def write_store(store):
+    """The text of a store."""
+    return " ".join([f"{write_place(item)}={worth}" for item, worth in sorted(list(store.items()))])

@@ -159,6 +159,22 @@ def loop_problems(function):
                 yield part.lineno
 
 
+def stored_names(tree):
+    """The names of the attributes that something in a file assigns."""
+    return {
+        part.attr for part in ast.walk(tree) if isinstance(part, ast.Attribute) and not isinstance(part.ctx, ast.Load)
+    }
+
+
+def name_problems(trees, package):
+    """What is the name of a method and of an attribute: whoever tells them apart by names alone cannot."""
+    stored = set().union(*[stored_names(tree) for tree in trees.values()])
+    for name, pairs in package.named.items():
+        if name in stored:
+            for module, function in pairs:
+                yield f"{module}:{function.lineno}: L18 attribute and method {name}"
+
+
 def flow_problems(texts):
     """What is wrong with a package, as texts; texts has that of each of its modules."""
     trees = {module: ast.parse(text) for module, text in texts.items()}
@@ -172,4 +188,4 @@ def flow_problems(texts):
         for module, function in pairs:
             for line in loop_problems(function):
                 found[f"{module}:{line}: L23 walked and changed"] = True
-    return sorted(found)
+    return sorted([*found, *name_problems(trees, package)])

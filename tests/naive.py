@@ -92,19 +92,21 @@ def meetings(cutting, calls):
     }
 
 
-def run_over(cutting, calls, row, store):
-    """The store after a run and the locals of its calls."""
+def history_over(cutting, calls, row, store):
+    """The store after a run, the locals of its calls, and what the reads of each piece got."""
     store = dict(store)
-    known = []
+    known, history = [], []
     for name, values, _, _ in calls:
         kind = kind_of(cutting.system, name)
         known.append({**dict.fromkeys(kind.local_names, 0), **dict(zip(kind.parameters, values, strict=True))})
     added = [[] for _ in calls]
     for number, (word, deeds) in zip(row, row_pieces(cutting, calls, row), strict=True):
+        got = []
         for (name, _, last), item in deeds if word != "back" else ():
             old = store.get(item, 0)
             if name == "read":
                 known[number][last] = old
+                got.append(old)
                 continue
             amount = last[1] + sum(factor * known[number][term] for factor, term in last[2])
             store[item] = {"add": old + amount, "raise": max(old, amount), "lower": min(old, amount)}.get(name, amount)
@@ -115,10 +117,16 @@ def run_over(cutting, calls, row, store):
             place, amount = added[number].pop()
             assert place == item
             store[item] -= amount
+        history.append(tuple(got))
     told = []
     for (name, _, _, _), values in zip(calls, known, strict=True):
         told.append({local: values[local] for local in kind_of(cutting.system, name).local_names})
-    return {item: value for item, value in store.items() if value}, told
+    return {item: value for item, value in store.items() if value}, told, history
+
+
+def run_over(cutting, calls, row, store):
+    """The store after a run and the locals of its calls."""
+    return history_over(cutting, calls, row, store)[:2]
 
 
 def timely_at(row, place, counts, alone):

@@ -199,6 +199,17 @@ class TestByHand(EngineTestCase):
         self.assertEqual([engine.store, engine.marks[0]], [{("t", 0): 6}, (5, {"x": 5})])
 
 
+    def test_what_is_taken_back_from_a_value_of_0(self):
+        text = "kind pay a\n  backs\n  add m[a] 5\n  check x\nend\nkind more\n  add m[1] -5\nend"
+        cutting = Cutting(parse_system(text), [("pay", 1)])
+        engine = engine_of(cutting, ("pay", (1,), (), 1), ("more", (), (), None))
+        engine >>= 0
+        engine >>= 1
+        self.assertEqual(engine.store, {})
+        for other in (self.ends(engine), self.ends(engine.copy()), self.ends(engine.copy().copy())):
+            self.assertEqual([other.store, other.run.row], [{("m", 1): -5}, (0, 1, 0, 0)])
+
+
 class TestAlone(EngineTestCase):
     def test_with_deeds(self):
         engine = engine_of(Cutting.whole(ONES), *[(name, (1,), (0,), None) for name in ("one", "two", "one")])

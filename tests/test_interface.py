@@ -48,6 +48,13 @@ FUNCTIONS = {
         "ordered": "(system, chains)",
     },
     "changes": {"broken": "(cutting, kind)"},
+    "histories": {
+        "reads": "(run, store)",
+        "find_wrong": "(run, store, told)",
+        "best_store": "(run, told)",
+    },
+    "journal": {name: "(cutting, store, text)" for name in ("recover", "resume")},
+    "campaigns": {"share": "(cutting, calls)", "stores": "(cutting, calls, store)"},
 }
 CLASSES = {
     "errors": {
@@ -67,6 +74,8 @@ CLASSES = {
     "costs": {"Costs": "(durations=None, weights=None, price=0)"},
     "changes": {"Design": "(cutting)"},
     "engines": {"Engine": "(cutting, store=None)"},
+    "journal": {"Journal": "(engine)"},
+    "console": {"Console": "()"},
 }
 SIGNS = {
     "Kind": "init len eq",
@@ -95,6 +104,11 @@ METHODS = {
         **{name: "(self, number)" for name in ("lock", "commit", "leave")},
         "begin": "(self, call)",
     },
+    "Journal": {
+        **{name: "(self)" for name in ("finish", "engine", "text")},
+        **{"begin": "(self, call)", "commit": "(self, number)"},
+    },
+    "Console": {"answer": "(self, line)"},
 }
 PROPERTIES = {"Costs": "durations weights", "Engine": "store run marks locks"}
 
@@ -211,6 +225,7 @@ class TestLanguage(unittest.TestCase):
             "def f(x):\n    for y in x:\n        z = []\n        z.append(y)\n        x = z\n",
             "def f(x):\n    for y in x:\n        x.append(y)\n",
             "def f(x):\n    for y in enumerate(x.y):\n        x.y[0] = y\n",
+            "class A:\n    def f(self):\n        self.n = 1\n\n\nclass B:\n    def n(self):\n        return 1\n",
         )
         right = (
             head + "        return g(x)\n\n\ndef g(x):\n    n = 0\n    n = n | x\n    n += 1\n    return n\n",
