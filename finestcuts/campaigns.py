@@ -17,11 +17,7 @@ def arrows_to(plan, met, left, number):
     """The set of the calls, as bits, from which arrows lead to the next piece of a call."""
     firsts = met[(number, plan.pieces_done(left, number))]
     return sum(
-        [
-            1 << other
-            for other, first in enumerate(firsts)
-            if other != number and plan.pieces_done(left, other) > first
-        ]
+        [1 << other for other, first in enumerate(firsts) if other != number and plan.pieces_done(left, other) > first]
     )
 
 

@@ -133,8 +133,6 @@ def ordered(system, chains):
     if type(system) is not System:
         raise InvalidSystem(system)
     need_chains(system, chains)
-    kinds = tuple(
-        [ordered_kind(kind, chains[kind.name]) if kind.name in chains else kind for kind in system.kinds]
-    )
+    kinds = tuple([ordered_kind(kind, chains[kind.name]) if kind.name in chains else kind for kind in system.kinds])
     cuts = [cut for name in chains for cut in cuts_of_chain(name, chains[name])]
     return Cutting(System(kinds, system.most), cuts)

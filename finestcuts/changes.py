@@ -1,6 +1,6 @@
 """New kinds and the cuts that they break, and designs: right cuttings that are changed step by step."""
 
-from finestcuts.cuttings import Cutting, are_cuts
+from finestcuts.cuttings import Cutting
 from finestcuts.errors import InvalidCuts, InvalidCutting, InvalidKind
 from finestcuts.finest import finest, is_right, need_cutting
 from finestcuts.kinds import Kind
@@ -38,6 +38,14 @@ class Trial:
         design.cutting = self.cutting
         design.earlier = self.earlier
 
+    def __eq__(self, other):
+        return (
+            type(other) is Trial
+            and self.design == other.design
+            and self.cutting == other.cutting
+            and self.earlier == other.earlier
+        )
+
 
 class Design:
     """A right cutting, and the changes that led to it."""
@@ -55,11 +63,6 @@ class Design:
             self.earlier = (*self.earlier, self.cutting)
             self.cutting = cutting
 
-    def need_cuts(self, cuts):
-        """Raises the error for what are no cuts of the system."""
-        if not are_cuts(self.cutting.system, cuts):
-            raise InvalidCuts(cuts)
-
     def add(self, kind):
         """Adds a kind at the end, takes the cuts away that it breaks, and returns their ascending list."""
         wrong = broken(self.cutting, kind)
@@ -74,15 +77,14 @@ class Design:
 
     def cut(self, cuts):
         """Adds cuts."""
-        self.need_cuts(cuts)
-        wrong = found_wrong(self.cutting.system, cuts)
+        added = Cutting(self.cutting.system, cuts)
+        wrong = found_wrong(added.system, added.cuts)
         if wrong:
             raise InvalidCuts(wrong)
-        self.put(self.cutting | Cutting(self.cutting.system, cuts))
+        self.put(self.cutting | added)
 
     def join(self, cuts):
         """Takes cuts away, those that are there."""
-        self.need_cuts(cuts)
         self.put(self.cutting - Cutting(self.cutting.system, cuts))
 
     def refine(self):
@@ -105,3 +107,6 @@ class Design:
         """The list of what adding each of these kinds, one after the other, would return."""
         design = Design(self.cutting)
         return [design.add(kind) for kind in kinds]
+
+    def __eq__(self, other):
+        return type(other) is Design and self.cutting == other.cutting and self.earlier == other.earlier

@@ -7,11 +7,16 @@ MOST_DIGITS = 300
 WORDS = ("finest", "right", "engine", "crash", "store", "order")
 
 
+def read_number(word):
+    """The integer of at most 300 digits that is written like this, or None."""
+    return read_integer(word, MOST_DIGITS)
+
+
 def read_cut(word):
     """The cut that is written like this, or None."""
-    name, colon, rest = word.partition(":")
-    position = read_integer(rest, MOST_DIGITS)
-    return (name, position) if colon and is_name(name) and position is not None else None
+    name, _, rest = word.partition(":")
+    position = read_number(rest)
+    return (name, position) if is_name(name) and position is not None else None
 
 
 def read_cuts(text):
@@ -31,8 +36,8 @@ def read_rest(word, text):
     if word == "pairs":
         return text if is_name(text) else None
     if word in ("go", "lock"):
-        return read_integer(text, MOST_DIGITS)
-    return read_call(text, MOST_DIGITS) if word == "begin" else None
+        return read_number(text)
+    return read_call(text, read_number) if word == "begin" else None
 
 
 def read_line(line):

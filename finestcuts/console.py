@@ -20,6 +20,9 @@ class Console:
         self.cutting = None
         self.running = None
 
+    def __eq__(self, other):
+        return type(other) is Console and self.cutting == other.cutting and self.running == other.running
+
     def need(self, word):
         """Raises the errors for what a line with this first word needs."""
         if word != "load" and self.cutting is None:

@@ -120,9 +120,7 @@ class Engine:
     def able(self):
         """The ascending list of the calls that are not over and could get all locks now."""
         return [
-            number
-            for number, task in enumerate(self.tasks)
-            if not task.is_done() and self.lockable(number)[1] == ()
+            number for number, task in enumerate(self.tasks) if not task.is_done() and self.lockable(number)[1] == ()
         ]
 
     def do_next(self, number):

@@ -71,6 +71,9 @@ class Journal:
         """What was written."""
         return "".join([line + "\n" for line in self.lines])
 
+    def __eq__(self, other):
+        return type(other) is Journal and self.kept == other.kept and self.lines == other.lines
+
     def can_begin(self, value):
         """Whether any value is a call that can be begun."""
         return is_call(self.kept.cutting.system, value) and len(self.kept.marks) < MOST_CALLS
@@ -110,7 +113,7 @@ def resume(cutting, store, text):
     journal = Journal(Engine(cutting, store))
     # What stands behind the last line feed is no line.
     first, *others = text.split("\n")
-    if others and first == journal.lines[0]:
+    if first == journal.lines[0]:
         for line in others[:-1]:
             if not journal.follow_line(line):
                 break

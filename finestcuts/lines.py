@@ -8,13 +8,12 @@ The text of each line but the first begins with its number and a digest of all l
 journal wrote, or what was written once before, is not what a journal writes next.
 """
 
-from finestcuts.reading import read_call, read_integer
+from finestcuts.reading import read_call
 from finestcuts.texts import format_system
-from finestcuts.writing import write_cuts, write_numbers, write_store
+from finestcuts.writing import write_cuts
 
 STROKE = "/"
-# Python refuses to read longer numbers.
-MOST_DIGITS = 4300
+DIGITS = "0123456789abcdef"
 BASE = 1000003
 MODULUS = 2305843009213693951
 
@@ -33,14 +32,39 @@ def whole_line(text):
 
 def text_of_line(line):
     """The text that a line tells, or None if it is not whole."""
-    text, stroke, again = line.partition(STROKE)
-    return text if stroke and text and text == again else None
+    text, _, again = line.partition(STROKE)
+    return text if text and text == again else None
+
+
+def write_number(number):
+    """The text of an integer: with base 16, as Python does not write long ones with base 10."""
+    return f"{number:x}"
+
+
+def write_numbers(numbers):
+    """The text of integers."""
+    return " ".join([write_number(number) for number in numbers])
+
+
+def read_number(word):
+    """The integer that is written like this, or None."""
+    digits = word.removeprefix("-")
+    if not digits or not all([digit in DIGITS for digit in digits]):
+        return None
+    number = int(word, 16)
+    return number if write_number(number) == word else None
+
+
+def write_items(store):
+    """The text of the items of a store."""
+    items = sorted(list(store.items()))
+    return " ".join([f"{table}[{write_number(index)}]={write_number(worth)}" for (table, index), worth in items])
 
 
 def write_start(cutting, store):
     """The text of the first line of a journal of an engine without calls."""
     system = format_system(cutting.system).replace("\n", "|")
-    return f"journal ; {write_cuts(cutting.cuts)} ; {write_store(store)} ; {system}"
+    return f"journal ; {write_cuts(cutting.cuts)} ; {write_items(store)} ; {system}"
 
 
 def write_late_start():
@@ -51,13 +75,13 @@ def write_late_start():
 def write_begin(call):
     """What a line tells of a call that was begun."""
     name, values, choices, stop = call
-    shown = "-" if stop is None else str(stop)
+    shown = "-" if stop is None else write_number(stop)
     return f"begin {name} ; {write_numbers(values)} ; {write_numbers(choices)} ; {shown}"
 
 
 def write_commit(number):
     """What a line tells of a piece of a call that was committed."""
-    return f"commit {number}"
+    return f"commit {write_number(number)}"
 
 
 def read_event(text):
@@ -67,5 +91,5 @@ def read_event(text):
     """
     word, _, rest = text.partition(" ")
     if word == "begin":
-        return (word, read_call(rest, MOST_DIGITS))
-    return (word, read_integer(rest)) if word == "commit" else None
+        return (word, read_call(rest, read_number))
+    return (word, read_number(rest)) if word == "commit" else None

@@ -59,22 +59,22 @@ def read_deed(text):
     return (word, read_place(place), last if word == "read" else read_sum(last))
 
 
-def read_numbers(words, most):
-    """The tuple of the integers of at most so many digits that are written like this, or None."""
-    numbers = tuple([read_integer(word, most) for word in words])
+def read_numbers(words, read):
+    """The tuple of the integers that are written like this, read being a function that reads one; or None."""
+    numbers = tuple([read(word) for word in words])
     return None if None in numbers else numbers
 
 
-def read_call(text, most):
+def read_call(text, read):
     """The tuple of a name, integers, integers, and an integer or None that is written like this, or None.
 
-    These are separated by semicolons, and the integers have at most so many digits each.
+    These are separated by semicolons; read is a function that reads an integer, or returns None.
     """
     parts = [[word for word in part.split(" ") if word] for part in text.split(";")]
     if len(parts) != 4 or len(parts[0]) != 1 or not is_name(parts[0][0]):
         return None
-    values, choices = read_numbers(parts[1], most), read_numbers(parts[2], most)
-    stops = (None,) if parts[3] == ["-"] else read_numbers(parts[3], most)
+    values, choices = read_numbers(parts[1], read), read_numbers(parts[2], read)
+    stops = (None,) if parts[3] == ["-"] else read_numbers(parts[3], read)
     if values is None or choices is None or stops is None or len(stops) != 1:
         return None
     return (parts[0][0], values, choices, stops[0])

@@ -158,10 +158,7 @@ class Run:
 
     def __eq__(self, other):
         return (
-            type(other) is Run
-            and self.cutting == other.cutting
-            and self.calls == other.calls
-            and self.row == other.row
+            type(other) is Run and self.cutting == other.cutting and self.calls == other.calls and self.row == other.row
         )
 
 
@@ -169,9 +166,7 @@ def next_numbers(left, counts, flags):
     """The ascending list of the calls whose next pieces may come next in a timely row."""
     begun = [number for number, flag in enumerate(flags) if flag and 0 < left[number] < counts[number]]
     return [
-        number
-        for number in range(len(counts))
-        if left[number] > 0 and (not flags[number] or begun in ([], [number]))
+        number for number in range(len(counts)) if left[number] > 0 and (not flags[number] or begun in ([], [number]))
     ]
 
 

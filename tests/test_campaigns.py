@@ -91,7 +91,9 @@ class TestByHand(CampaignTestCase):
         self.assertEqual(share(CUTTING, ()), (0, 1))
         for store in ({}, {("m", 1): 0}):
             self.assertEqual(stores(CUTTING, (), store), {(): 1})
-        self.assertEqual(stores(CUTTING, (), {("m", 2): 1, ("a", 9): 2, ("m", 1): 0}), {((("a", 9), 2), (("m", 2), 1)): 1})
+        self.assertEqual(
+            stores(CUTTING, (), {("m", 2): 1, ("a", 9): 2, ("m", 1): 0}), {((("a", 9), 2), (("m", 2), 1)): 1}
+        )
 
     def test_values_of_zero(self):
         store = {("m", 1): 5, ("m", 2): -5, ("m", 3): 0, ("a", 0): 0}
@@ -156,7 +158,10 @@ class TestAgainstAllRows(CampaignTestCase):
         for seed in range(200):
             source = random.Random(seed)
             maker = Maker(source)
-            kinds = [Kind(kind.name, kind.parameters, kind.steps[:4], kind.unlike, kind.backs, kind.alone) for kind in maker.system().kinds]
+            kinds = [
+                Kind(kind.name, kind.parameters, kind.steps[:4], kind.unlike, kind.backs, kind.alone)
+                for kind in maker.system().kinds
+            ]
             system = System(tuple(kinds), 100)
             cutting = Cutting.single(system)
             made = [maker.call(source.choice(system.kinds)) for _ in range(source.choice((2, 3)))]

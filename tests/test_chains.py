@@ -65,7 +65,11 @@ class ChainTestCase(RaisingTestCase):
             whole = tuple(range(len(kind)))
             expected = {(): min(rows)[0], whole: 0}
             for steps in free:
-                behind = [chain[orderings.cut_off(chain).index(steps) + 1 :] for chain in right if steps in orderings.cut_off(chain)]
+                behind = [
+                    chain[orderings.cut_off(chain).index(steps) + 1 :]
+                    for chain in right
+                    if steps in orderings.cut_off(chain)
+                ]
                 expected[steps] = min(orderings.cost_of(kind, rest, durations, weights, price) for rest in behind)
             found = heights(system, name, costs)
             self.assertEqual(found, expected)
@@ -238,7 +242,14 @@ class TestKeeps(ChainTestCase):
 class TestChains(ChainTestCase):
     def test_what_is_a_chain_and_what_is_not(self):
         kind = kind_of(READ, "add t[a] 1", PUT)
-        right = [((0, 1, 2),), ((0,), (1,), (2,)), ((1,), (0,), (2,)), ((0,), (2,), (1,)), ((0, 2), (1,)), ((1,), (0, 2))]
+        right = [
+            ((0, 1, 2),),
+            ((0,), (1,), (2,)),
+            ((1,), (0,), (2,)),
+            ((0,), (2,), (1,)),
+            ((0, 2), (1,)),
+            ((1,), (0, 2)),
+        ]
         right.extend([((0, 1), (2,)), ((0,), (1, 2))])
         for chain in right:
             self.assertIs(is_chain(kind, chain), True)
@@ -300,7 +311,9 @@ class TestFreeSets(ChainTestCase):
             system = SmallMaker(source, kinds=2, steps=4).system()
             for name in system.names:
                 size = len(system[name])
-                durations = source.choice((None, {name: tuple(source.randint(0, 3) for _ in range(size))}, {"look": (5,)}))
+                durations = source.choice(
+                    (None, {name: tuple(source.randint(0, 3) for _ in range(size))}, {"look": (5,)})
+                )
                 if durations is not None and len(durations.get(name, range(size))) != size:
                     durations = {}
                 weights = source.choice((None, {"m": 0, "s": 3}, {"t": 2}))
@@ -315,7 +328,9 @@ class TestFreeSets(ChainTestCase):
         ):
             system = parse_system(f"kind pay a{flags}\n  read m[a] x\n  check x\n  put m[a] 1\nend")
             self.same(free_sets(parse_system(format_system(system) + "\n" + BOTH), "pay"), [])
-            alone = parse_system(format_system(system).replace("pay a", "pay a", 1).replace("  read", "  alone\n  read"))
+            alone = parse_system(
+                format_system(system).replace("pay a", "pay a", 1).replace("  read", "  alone\n  read")
+            )
             self.same(free_sets(alone, "pay"), free)
         # The put may only come behind the check, the add ahead of it if it is taken back and no way leads to it.
         text = "kind pay a{}\n  check x\n  put t[0] 1\n  add s[a] 1\nend"
@@ -326,7 +341,9 @@ class TestFreeSets(ChainTestCase):
         self.same(free_sets(parse_system(text.format("\n  backs") + look), "pay"), [(0,), (0, 1), (0, 2)])
         # The add's own kind reads it: a way from the add to itself.
         text = "kind pay a\n  backs\n  add s[a] 1\n  check x\n  put t[0] 1\nend"
-        self.same(free_sets(parse_system(text + "\nkind look b\n  read t[b] x\nend"), "pay"), [(0,), (0, 1), (1,), (1, 2)])
+        self.same(
+            free_sets(parse_system(text + "\nkind look b\n  read t[b] x\nend"), "pay"), [(0,), (0, 1), (1,), (1, 2)]
+        )
 
     def test_a_step_with_several_deeds(self):
         # A way between both tuples of one choose is none, and one within a step cuts nothing.
@@ -415,6 +432,20 @@ class TestHeights(ChainTestCase):
         self.is_wrong(types.MappingProxyType(found))
         self.is_wrong(heights(SYSTEM, "both", Costs()))
 
+    def test_sets_that_do_not_follow_each_other(self):
+        """What is told of a set says nothing of another one that has not all of its steps."""
+        steps = tuple(("put", ("m", at), ("sum", at, ())) for at in range(4))
+        system = System((Kind("pay", (), steps),))
+        found = heights(system, "pay", Costs())
+        self.assertEqual(len(found), 16)
+        for low in ((1, 2), (0, 3), (1, 2, 3), (2,)):
+            ahead = [given for given in found if set(given) < set(low)]
+            value = {**found, low: -100, **dict.fromkeys(ahead, -100)}
+            self.assertIs(is_heights(system, "pay", Costs(), value), True)
+            for given in ahead:
+                self.assertIs(is_heights(system, "pay", Costs(), {**value, given: found[given]}), False)
+            self.assertIs(is_heights(system, "pay", Costs(), {**value, (0, 1, 2, 3): -100}), False)
+
     def test_drawn_values(self):
         told = {True: 0, False: 0}
         for seed in range(60):
@@ -427,7 +458,9 @@ class TestHeights(ChainTestCase):
             for _ in range(20):
                 value = {steps: cost - source.choice((0, 0, 0, 1, 2, -1)) for steps, cost in found.items()}
                 rows = [
-                    value[steps] <= orderings.cost_of(kind, (tuple(sorted(set(more) - set(steps))),), None, {"m": 2}, price) + value[more]
+                    value[steps]
+                    <= orderings.cost_of(kind, (tuple(sorted(set(more) - set(steps))),), None, {"m": 2}, price)
+                    + value[more]
                     for steps, more in itertools.product(value, repeat=2)
                     if set(steps) < set(more)
                 ]
@@ -463,12 +496,14 @@ class TestOrdered(ChainTestCase):
         adds = tuple(("add", ("m", value), ("sum", 1, ())) for value in range(8))
         system = System((Kind("pay", ("a",), adds, unlike, most=9), Kind("look", (), adds[:2])), 17)
         self.assertEqual(len(system.constants), 17)
-        for name, chain in (("pay", ((7, ), tuple(range(7)))), ("look", ((1,), (0,)))):
+        for name, chain in (("pay", ((7,), tuple(range(7)))), ("look", ((1,), (0,)))):
             found = ordered(system, {name: chain})
             self.assertEqual(found.system.constants, system.constants)
             self.assertEqual(found.system["pay"].unlike, unlike)
             self.assertEqual(found.cuts, ((name, 1),))
-            self.assertEqual(found.system[name].steps, tuple(system[name].steps[step] for piece in chain for step in piece))
+            self.assertEqual(
+                found.system[name].steps, tuple(system[name].steps[step] for piece in chain for step in piece)
+            )
         self.assertEqual(ordered(system, {}).system, system)
 
     def test_drawn_systems(self):
@@ -481,7 +516,9 @@ class TestOrdered(ChainTestCase):
                 if source.random() < 0.8:
                     given[name] = source.choice(orderings.chains_of(system[name]))
                     ways = ways_in(system, name)
-                    free = [orderings.is_free(system[name], set(steps), ways) for steps in orderings.cut_off(given[name])]
+                    free = [
+                        orderings.is_free(system[name], set(steps), ways) for steps in orderings.cut_off(given[name])
+                    ]
                     expected = expected and all(free)
             found = ordered(system, given)
             with self.subTest(format_system(system), given=given):

@@ -299,6 +299,30 @@ class TestDesigns(ChangeTestCase):
         self.assertEqual(design.tried(kinds), [[]])
         self.assertEqual(len(kinds), 1)
 
+    def test_equality(self):
+        one, other = Design(finest(SYSTEM)), Design(finest(SYSTEM))
+        self.assertEqual([one == other, one != other, one.trial() == other.trial()], [True, False, True])
+        one.join([ALL[0]])
+        self.assertEqual([one == other, one != other], [False, True])
+        other.join([ALL[0]])
+        self.assertEqual([one == other, one == Design(one.cutting)], [True, False])
+        self.assertIs(Design(finest(SYSTEM)) == Design(Cutting.whole(SYSTEM)), False)
+        trials = [one.trial(), other.trial(), Design(one.cutting).trial()]
+        self.assertEqual([trials[0] == trials[1], trials[0] == trials[2]], [True, False])
+        with trials[0]:
+            self.assertIs(trials[0] == trials[1], False)
+        for value in (
+            *STRANGE,
+            0,
+            Design,
+            one.cutting,
+            Posing(Design, **vars(one)),
+            types.SimpleNamespace(**vars(one)),
+        ):
+            for thing in (one, one.trial()):
+                self.assertIs(thing == value, False)
+                self.assertIs(thing != value, True)
+
 
 class TestTrials(ChangeTestCase):
     def test_changes_within(self):

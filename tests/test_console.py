@@ -25,7 +25,7 @@ from finestcuts.orders import order
 from finestcuts.texts import format_system, parse_system
 from finestcuts.ways import bad_pairs
 from making import SmallMaker
-from objects import LARGE, NO_NAMES, STRANGE, RaisingTestCase, shown
+from objects import LARGE, NO_NAMES, STRANGE, Posing, RaisingTestCase, shown
 
 PAY = "kind pay a b|  unlike a b|  add m[a] -5|  add m[b] 5|end"
 BOTH = "kind both c d|  read m[c] x|  read m[d] y|end"
@@ -72,7 +72,13 @@ class ConsoleTestCase(RaisingTestCase):
 class TestExample(ConsoleTestCase):
     def test_the_example(self):
         console = Console()
-        lines = ["load kind pay a b|  unlike a b|  add m[a] -5|  add m[b] 5|end", "cut pay:1", "right", "finest", "engine"]
+        lines = [
+            "load kind pay a b|  unlike a b|  add m[a] -5|  add m[b] 5|end",
+            "cut pay:1",
+            "right",
+            "finest",
+            "engine",
+        ]
         told = [console.answer(line) for line in lines]
         more = [console.answer(line) for line in ["begin pay ; 1 2 ; ; -", "go 0", "store", "go 0", "order"]]
         self.assertEqual([told, more], [["ok", "ok", "right", "pay:1", "ok"], ["0", "done", "m[1]=-5", "over", "0"]])
@@ -172,7 +178,19 @@ class TestSystems(ConsoleTestCase):
         console = Console()
         for line in (*SYSTEMS, *NEEDING, "cut look:5", "pairs look", "go -1", "begin look;;;9"):
             self.is_refused(console, NoSystem, line)
-        for line in ("cut", "cut ", "pairs", "pairs none", "go", "go x", "begin", "begin pay", "lock 0 ", "none", "right "):
+        for line in (
+            "cut",
+            "cut ",
+            "pairs",
+            "pairs none",
+            "go",
+            "go x",
+            "begin",
+            "begin pay",
+            "lock 0 ",
+            "none",
+            "right ",
+        ):
             self.is_refused(console, InvalidLine, line)
         self.is_refused(console, ParseError, "load ")
         self.is_refused(console, NoSystem, "right")
@@ -251,7 +269,9 @@ class TestEngines(ConsoleTestCase):
         self.answers(console, ("go 0", "over"), ("go 1", "over"))
         self.answers(console, ("store", "a[-10]=27 a[2]=33 m[0]=1 m[9]=-10 m[11]=2"))
         # An item whose value is 0 is not told.
-        self.answers(console, ("begin pay ; 0 2 ; ; -", "2"), ("go 2", "over"), ("store", "a[-10]=27 m[0]=1 m[9]=-10 m[11]=2"))
+        self.answers(
+            console, ("begin pay ; 0 2 ; ; -", "2"), ("go 2", "over"), ("store", "a[-10]=27 m[0]=1 m[9]=-10 m[11]=2")
+        )
 
     def test_begin_with_spaces(self):
         text = "kind pay a b|  choose|  or|  end|  check x|  choose|  or|  end|end|kind none".replace("|kind none", "")
@@ -298,9 +318,35 @@ class TestEngines(ConsoleTestCase):
 class TestLines(ConsoleTestCase):
     def test_what_is_no_line(self):
         ready = self.console(f"load {PAY}", "cut pay:1", "engine", "begin pay ; 1 2 ; ; -", "go 0")
-        wrong = ["", " ", "\n", "none", "load", "Load x", "loadkind", f"load\t{PAY}", "|", "cut", "cut ", "begin", "begin "]
+        wrong = [
+            "",
+            " ",
+            "\n",
+            "none",
+            "load",
+            "Load x",
+            "loadkind",
+            f"load\t{PAY}",
+            "|",
+            "cut",
+            "cut ",
+            "begin",
+            "begin ",
+        ]
         for word in ("finest", "right", "engine", "crash", "store", "order"):
-            wrong.extend([word + " ", " " + word, word + "\n", "\n" + word, word.upper(), word + " 1", word[:-1], word * 2, word + "\r"])
+            wrong.extend(
+                [
+                    word + " ",
+                    " " + word,
+                    word + "\n",
+                    "\n" + word,
+                    word.upper(),
+                    word + " 1",
+                    word[:-1],
+                    word * 2,
+                    word + "\r",
+                ]
+            )
         for line in (f"load {PAY}", "cut pay:1", "pairs pay", "go 0", "lock 0", "begin pay ; 1 2 ; ; -"):
             wrong.extend([line + "\n", "\n" + line, " " + line, line.replace(" ", "\n", 1), line.replace(" ", "\t", 1)])
             wrong.extend([line.split(" ")[0], line.replace(" ", "", 1), line.upper()])
@@ -347,7 +393,9 @@ class TestLines(ConsoleTestCase):
                 self.is_refused(console, InvalidLine, f"begin stop;1;0;{number}")
         for number in (10**300 - 1, 1 - 10**300, 10**299):
             self.is_refused(console, UnknownCall, f"go {number}", "value", number)
-            self.is_refused(console, InvalidCall, f"begin pay;1 2;{number};-", "value", ("pay", (1, 2), (number,), None))
+            self.is_refused(
+                console, InvalidCall, f"begin pay;1 2;{number};-", "value", ("pay", (1, 2), (number,), None)
+            )
             self.is_refused(console, InvalidCall, f"begin pay;1 2;;{number}", "value", ("pay", (1, 2), (), number))
 
     def test_begin(self):
@@ -424,6 +472,17 @@ class TestDrawn(ConsoleTestCase):
                 told = {"crash": "ok", "store": store or "empty"}
                 expected = told.get(word) or " ".join(map(str, order(engine.run))) or "none"
             self.answers(console, (line, expected))
+
+    def test_equality(self):
+        lines = (f"load {PAY}", "cut pay:1", "engine", "begin pay ; 1 2 ; ; -", "lock 0", "go 0")
+        for at in range(len(lines) + 1):
+            one = self.console(*lines[:at])
+            self.assertEqual([one == self.console(*lines[:at]), one != self.console(*lines[:at])], [True, False])
+            for to in range(at):
+                self.assertEqual([one == self.console(*lines[:to]), one != self.console(*lines[:to])], [False, True])
+            for value in (*STRANGE, 0, Console, Posing(Console, **vars(one)), types.SimpleNamespace(**vars(one))):
+                self.assertIs(one == value, False)
+                self.assertIs(one != value, True)
 
     def test_two_consoles(self):
         one, other = self.console(f"load {PAY}", "engine"), self.console(f"load {PAY}", "engine")

@@ -101,7 +101,9 @@ class TestByHand(EngineTestCase):
             self.assertIsNone(engine.crash())
 
     def test_locks_in_the_order_of_the_items(self):
-        system = parse_system("kind pay a\n  put m[a] 1\n  put m[-1] 1\n  put a[9] 1\n  put m[10] 1\n  put a[9] 2\nend\n" + BOTH)
+        system = parse_system(
+            "kind pay a\n  put m[a] 1\n  put m[-1] 1\n  put a[9] 1\n  put m[10] 1\n  put a[9] 2\nend\n" + BOTH
+        )
         engine = engine_of(Cutting.whole(system), ("pay", (2,), (), None), ("both", (10, -1), (), None))
         self.assertEqual(engine.lock(1), ())
         self.assertEqual(engine.locks, [(("m", -1), 1), (("m", 10), 1)])
@@ -161,7 +163,9 @@ class TestByHand(EngineTestCase):
         self.assertEqual(engine.lock(1), ())
         self.assertEqual([engine.able(), engine.lock(0), engine.commit(0)], [[0, 1], (), True])
         self.assertEqual([engine.locks, engine.run.row], [[(("m", 1), 1)], (0,)])
-        single = finest(parse_system("kind pay a\n  choose\n    read m[a] x\n  or\n  end\n  check x\n  read s[a] y\nend"))
+        single = finest(
+            parse_system("kind pay a\n  choose\n    read m[a] x\n  or\n  end\n  check x\n  read s[a] y\nend")
+        )
         self.assertEqual(len(single), 2)
         engine = engine_of(single, ("pay", (1,), (1,), None))
         # Neither the choose nor the check is locked for.
@@ -198,7 +202,6 @@ class TestByHand(EngineTestCase):
             engine >>= 0
         self.assertEqual([engine.store, engine.marks[0]], [{("t", 0): 6}, (5, {"x": 5})])
 
-
     def test_what_is_taken_back_from_a_value_of_0(self):
         text = "kind pay a\n  backs\n  add m[a] 5\n  check x\nend\nkind more\n  add m[1] -5\nend"
         cutting = Cutting(parse_system(text), [("pay", 1)])
@@ -227,7 +230,9 @@ class TestAlone(EngineTestCase):
         # It waits at its first item, and holds nothing: the other one may go ahead.
         self.assertEqual([engine.able(), engine.lock(2)], [[1, 2], ()])
         self.assertEqual([engine.lock(0), engine.commit(2), engine.lock(0)], [(2,), True, (1,)])
-        engine = engine_of(Cutting.whole(ONES), ("one", (1,), (0,), None), ("all", (7,), (), None), ("two", (5,), (0,), None))
+        engine = engine_of(
+            Cutting.whole(ONES), ("one", (1,), (0,), None), ("all", (7,), (), None), ("two", (5,), (0,), None)
+        )
         self.assertEqual([engine.lock(1), engine.lock(0)], [(), (1,)])
         self.assertEqual(engine.locks, [(("m", 1), 0), (("m", 7), 1)])
         self.assertEqual([engine.lock(2), engine.able()], [(0,), [1]])
@@ -376,7 +381,13 @@ class TestMoves(EngineTestCase):
         self.assertEqual(engine.lock(1), ())
         other = self.ends(engine)
         self.assertEqual(other.run.row, (1, 0, 2))
-        engine = engine_of(WHOLE, ("both", (1, 1), (), None), ("pay", (1, 3), (), None), ("both", (3, 4), (), None), ("both", (9, 9), (), None))
+        engine = engine_of(
+            WHOLE,
+            ("both", (1, 1), (), None),
+            ("pay", (1, 3), (), None),
+            ("both", (3, 4), (), None),
+            ("both", (9, 9), (), None),
+        )
         self.assertEqual([engine.lock(2), engine.lock(1)], [(), (2,)])
         # The first waits for the second, the second for the third.
         self.assertEqual([engine.lock(0), engine.able()], [(1,), [2, 3]])
@@ -385,9 +396,15 @@ class TestMoves(EngineTestCase):
 
 class TestCopies(EngineTestCase):
     def start(self):
-        cutting = finest(parse_system("kind pay a b\n  backs\n  add m[a] -1\n  check x\n  add m[b] 1\nend\n" + BOTH.replace("m[", "n[")))
+        cutting = finest(
+            parse_system(
+                "kind pay a b\n  backs\n  add m[a] -1\n  check x\n  add m[b] 1\nend\n" + BOTH.replace("m[", "n[")
+            )
+        )
         self.assertEqual(cutting.cuts, (("both", 1), ("pay", 1), ("pay", 2)))
-        engine = engine_of(cutting, ("pay", (1, 2), (), 1), ("both", (3, 4), (), None), ("pay", (1, 1), (), None), store={("n", 3): 1})
+        engine = engine_of(
+            cutting, ("pay", (1, 2), (), 1), ("both", (3, 4), (), None), ("pay", (1, 1), (), None), store={("n", 3): 1}
+        )
         engine >>= 0
         engine >>= 1
         engine.lock(2)
@@ -447,7 +464,9 @@ class TestCopies(EngineTestCase):
 
     def test_the_store_at_the_beginning(self):
         system = parse_system("kind pay\n  put m[0] 1\nend")
-        one, other = [engine_of(Cutting.whole(system), ("pay", (), (), None), store=store) for store in (None, {("m", 0): 5})]
+        one, other = [
+            engine_of(Cutting.whole(system), ("pay", (), (), None), store=store) for store in (None, {("m", 0): 5})
+        ]
         one.finish()
         other.finish()
         self.assertEqual([one.store, one.run == other.run], [other.store, True])
@@ -456,7 +475,15 @@ class TestCopies(EngineTestCase):
     def test_other_objects(self):
         engine = self.start()
         look = {name: getattr(engine, name) for name in ("cutting", "store", "run", "marks", "locks", "is_over")}
-        for value in (*STRANGE, 0, Engine, engine.run, engine.cutting, types.SimpleNamespace(**look), Posing(Engine, **vars(engine))):
+        for value in (
+            *STRANGE,
+            0,
+            Engine,
+            engine.run,
+            engine.cutting,
+            types.SimpleNamespace(**look),
+            Posing(Engine, **vars(engine)),
+        ):
             with self.subTest(shown(value)):
                 self.assertIs(engine == value, False)
                 self.assertIs(engine != value, True)

@@ -164,7 +164,9 @@ class TestBestStore(HistoryTestCase):
         self.row_of("kind a\n  read m[0] x\n  put m[0] 3\n  add m[0] x\n  read m[0] y\nend", (5, 8))
         self.row_of("kind a\n  read m[0] x\n  put m[0] 3\n  add m[0] x\n  read m[0] y\nend", (5, 9), expected=False)
         self.row_of("kind a\n  read m[0] x\n  read m[1] y\n  add m[1] -x\n  read m[1] x\nend", (5, 9, 4))
-        self.row_of("kind a\n  read m[0] x\n  read m[1] y\n  add m[1] -x\n  read m[1] x\nend", (5, 9, 5), expected=False)
+        self.row_of(
+            "kind a\n  read m[0] x\n  read m[1] y\n  add m[1] -x\n  read m[1] x\nend", (5, 9, 5), expected=False
+        )
 
     def test_raises_and_lowers(self):
         text = "kind a\n  raise m[0] 3\n  read m[0] x\nend\nkind b\n  lower m[0] 7\n  read m[0] x\nend"
@@ -252,10 +254,14 @@ class TestBestStore(HistoryTestCase):
             row = [at for at, call in enumerate(calls) for _ in naive.pieces_of(cutting, call)]
             source.shuffle(row)
             run = Run(cutting, tuple(calls), tuple(row))
-            stores = [dict(zip((("m", 0), ("m", 1)), pair, strict=True)) for pair in itertools.product(domain, repeat=2)]
+            stores = [
+                dict(zip((("m", 0), ("m", 1)), pair, strict=True)) for pair in itertools.product(domain, repeat=2)
+            ]
             able = [naive.history_over(cutting, calls, row, store)[2] for store in stores]
             for _ in range(6):
-                told = [tuple(value + source.choice((0, 0, 0, 0, 1, -1)) for value in got) for got in source.choice(able)]
+                told = [
+                    tuple(value + source.choice((0, 0, 0, 0, 1, -1)) for value in got) for got in source.choice(able)
+                ]
                 with self.subTest(format_system(system), row=row, told=told):
                     if told in able:
                         found[self.finds(run, told) is not None] += 1
@@ -271,7 +277,15 @@ class TestBestStore(HistoryTestCase):
 class TestErrors(HistoryTestCase):
     def test_runs(self):
         look = {"cutting": CUTTING, "calls": CALLS, "row": ROW}
-        for run in (*STRANGE, 0, CUTTING, Run, Posing(Run, **look), types.SimpleNamespace(**look), (CUTTING, CALLS, ROW)):
+        for run in (
+            *STRANGE,
+            0,
+            CUTTING,
+            Run,
+            Posing(Run, **look),
+            types.SimpleNamespace(**look),
+            (CUTTING, CALLS, ROW),
+        ):
             self.raises(InvalidRun, run, reads, run, STORE)
             self.raises(InvalidRun, run, reads, run, None)
             for store in (STORE, None, Broken()):

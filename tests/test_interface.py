@@ -84,6 +84,9 @@ SIGNS = {
     "Run": "init len eq rshift call",
     "Costs": "init eq call",
     "Engine": "init eq irshift",
+    "Design": "init eq",
+    "Journal": "init eq",
+    "Console": "init eq",
 }
 METHODS = {
     "Cutting": {

@@ -21,6 +21,7 @@ from finestcuts.errors import (
 from finestcuts.finest import finest
 from finestcuts.journal import Journal, recover, resume
 from finestcuts.kinds import Kind
+from finestcuts.lines import whole_line
 from finestcuts.systems import System
 from finestcuts.texts import format_system, parse_system
 from making import Maker, largest_system
@@ -314,7 +315,9 @@ class TestRecovered(JournalTestCase):
             behind.extend([other.text(), *[line + "\n" for line in self.lines(other)]])
             behind.append("".join([line + "\n" for line in self.lines(other)[len(lines) :]]))
             behind.append("".join([line + "\n" for line in self.lines(other)[1:]]))
-        behind.extend([text, text[len(lines[0]) + 1 :], "\n", "\n\n", "a", "a\n", "/\n", " ", "\r\n", "\0", "0\n", "9" * 5000])
+        behind.extend(
+            [text, text[len(lines[0]) + 1 :], "\n", "\n\n", "a", "a\n", "/\n", " ", "\r\n", "\0", "0\n", "9" * 5000]
+        )
         for more in behind:
             self.recovers(journal, text + more)
             self.recovers(journal, text + more * 2)
@@ -327,14 +330,63 @@ class TestRecovered(JournalTestCase):
     def test_texts_that_begin_otherwise(self):
         journal, nothing = self.journal(*MOVES), self.journal()
         text, lines = journal.text(), self.lines(journal)
-        for wrong in ("", "\n", "\n" + text, " " + text, text[1:], text[len(lines[0]) + 1 :], lines[1] + "\n" + text, "a\n" + text):
+        for wrong in (
+            "",
+            "\n",
+            "\n" + text,
+            " " + text,
+            text[1:],
+            text[len(lines[0]) + 1 :],
+            lines[1] + "\n" + text,
+            "a\n" + text,
+        ):
             self.recovers(nothing, wrong)
-        for wrong in (lines[0], lines[0] + " \n", lines[0][: len(lines[0]) // 2] + "\n", lines[0] * 2 + "\n", text.upper()):
+        for wrong in (
+            lines[0],
+            lines[0] + " \n",
+            lines[0][: len(lines[0]) // 2] + "\n",
+            lines[0] * 2 + "\n",
+            text.upper(),
+        ):
             self.recovers(nothing, wrong)
         for cutting, store in ((Cutting.whole(SYSTEM), STORE), (CUTTING, {}), (CUTTING, {**STORE, ("m", 2): 1})):
             found = recover(cutting, store, text)
             self.assertIs(found == Engine(cutting, store), True)
             self.assertEqual(resume(cutting, store, text).text(), Journal(Engine(cutting, store)).text())
+
+    def test_forged_lines(self):
+        """Whole lines with the right number and digest that no journal writes next."""
+        journal = self.journal(PAY, 0, ("pay", (3, 4), (), None), 1, 1, ONE, ONE, 2)
+        text = journal.text()
+        self.assertEqual(self.forged(journal, "commit 0").engine().run.row, (0, 1, 1, 2, 0))
+        self.assertEqual(len(self.forged(journal, "begin look ; -a ; 1 ; 2").engine().marks), 5)
+        for event in (
+            "", " ", "commit", "commit ", "commit 1", "commit 3", "commit 4", "commit -1", "commit 00", "commit  0", "commit 0 ",
+            "commit 0x0", "commit g", "commit -", "commit None", "commit 0;", "Commit 0", "lock 0", "crash", "finish", "0",
+            "begin", "begin ", "begin pay", "begin pay ; 1 2 ; ; -", "begin pay ; 1 1 ;  ; -", "begin pay ; 1 ;  ; -",
+            "begin pay ; 1 2 ;  ;  -", "begin pay;1 2;;-", "begin pay ; 1  2 ;  ; -", "begin pay ; 1 A ;  ; -",
+            "begin pay ; 1 0x2 ;  ; -", "begin pay ; 1 02 ;  ; -", "begin pay ; 1 zz ;  ; -", "begin pay ; 1 2 ;  ; 0",
+            "begin pay ; 1 2 ; 0 ; -", "begin none ;  ;  ; -", "begin kind ; 1 2 ;  ; -", "begin look ; 1 ; 2 ; -",
+            "begin look ; 1 ; 0 ; 1", "begin look ; 1 ; 0 ; g", "begin look ; 1 ; 0 ; - -", "begin look ; 1 ; 0 ; ", "begin look ; 1_0 ; 0 ; -",
+            "begin look ; 1 ; 0 ; -\r", "begin look ; \u0661 ; 0 ; -", "begin look ; 1 ; 0 ; - ; -", "begin look ; - ; 0 ; -", "\0",
+        ):  # fmt: skip
+            found = self.forged(journal, event)
+            self.assertEqual(found.text(), text, event)
+            self.assertIs(found == journal, True)
+        journal = self.journal(*[LOOK] * 40)
+        for event in ("begin look ; 1 ; 0 ; -", "begin look ; -7 ; 0 ; -"):
+            self.assertIs(self.forged(journal, event) == journal, True)
+            self.assertIs(self.forged(self.journal(*[LOOK] * 39), event) == self.journal(*[LOOK] * 39), False)
+
+    def forged(self, journal, event):
+        """What goes on from the text of a journal with one more line, which tells this."""
+        line = whole_line(journal.next_text(event))
+        for head in (str(len(journal.lines) + 1), "0", ""):
+            wrong = whole_line(f"{head} {journal.digest} {event}")
+            self.assertIs(resume(CUTTING, STORE, journal.text() + wrong + "\n") == journal, True)
+        wrong = whole_line(f"{len(journal.lines)} {journal.digest + 1} {event}")
+        self.assertIs(resume(CUTTING, STORE, journal.text() + wrong + "\n") == journal, True)
+        return resume(CUTTING, STORE, journal.text() + line + "\n")
 
     def test_stores_that_are_the_same(self):
         journal = self.journal(*MOVES)
@@ -395,11 +447,56 @@ class TestRecovered(JournalTestCase):
         for cut in (1, 100, 5000):
             found = recover(CUTTING, store, journal.text()[:-cut])
             self.assertEqual(found.run.row, (0,))
-        line = self.lines(journal)[3]
-        wrong = journal.text().replace(line, line.replace("9" * 4000, "9" * 4001))
-        self.assertEqual(recover(CUTTING, store, wrong).run.row, (0,))
-        wrong = journal.text().replace(line, line.replace("9" * 4000, "9" * 9000))
-        self.assertEqual(recover(CUTTING, store, wrong).run.row, (0,))
+
+    def test_results_of_the_program_of_any_size(self):
+        """Python does not write or read numbers of more than 4300 digits with base 10."""
+        system = parse_system(f"kind pay a\n  read m[0] x\n  put m[0] {LARGE} * x\nend")
+        cutting = Cutting.whole(system)
+        engine = Engine(cutting, {("m", 0): GREAT})
+        for number in range(6):
+            engine.begin(("pay", (number,), (), None))
+        engine.finish()
+        store = engine.store
+        self.assertGreater(store[("m", 0)], 10**4500)
+        journal = Journal(Engine(cutting, store))
+        journal.begin(("pay", (-store[("m", 0)],), (), None))
+        journal.finish()
+        self.recovers(journal, journal.text(), cutting, store)
+        found = recover(cutting, store, journal.text()[:-1])
+        self.assertEqual([len(found.marks), found.run.row], [1, ()])
+        self.assertIs(recover(cutting, {}, journal.text()) == Engine(cutting), True)
+        late = Journal(engine)
+        late.finish()
+        self.assertIs(recover(cutting, store, late.text()) == Engine(cutting, store), True)
+
+    def test_equality(self):
+        one = self.journal(*MOVES)
+        self.assertIs(one == resume(CUTTING, STORE, one.text()), True)
+        self.assertIs(one != resume(CUTTING, STORE, one.text()), False)
+        self.assertIs(resume(CUTTING, STORE, "") == self.journal(), True)
+        late = Journal(one.engine())
+        look = {"kept": one.engine(), "lines": self.lines(one)}
+        for other in (
+            self.journal(*MOVES[:-1]),
+            self.journal(),
+            late,
+            self.journal(*MOVES, store={}),
+            *STRANGE,
+            0,
+            Journal,
+        ):
+            self.assertIs(one == other, False)
+            self.assertIs(one != other, True)
+        self.assertIs(late == Journal(self.journal(*MOVES[:3]).engine()), False)
+        for other in (
+            one.engine(),
+            one.text(),
+            Posing(Journal, **look),
+            types.SimpleNamespace(**look),
+            Same(),
+            Broken(),
+        ):
+            self.assertIs(one == other, False)
 
     def test_drawn_journals(self):
         lines = 0

@@ -52,8 +52,7 @@ class Work:
         return tuple(
             other
             for other in self.others(number)
-            if (item, other) in self.held
-            and any(naive.do_meet(row, act) for row in own for act in self.deeds(other))
+            if (item, other) in self.held and any(naive.do_meet(row, act) for row in own for act in self.deeds(other))
         )
 
     def need(self, number):
