@@ -41,7 +41,7 @@ def next_states(plan, met, state):
     left, _ = state
     found = []
     ringed = 0
-    for number in plan.able(left):
+    for number in plan.coming(left):
         rest = plan.one_less(left, number)
         ways = ways_after(plan, met, state, number)
         if ways is None:
@@ -80,7 +80,7 @@ def states_after(plan, layer):
     """The dict of the states behind each next piece of states to how many beginnings lead to each."""
     further = {}
     for state, many in layer.items():
-        for number in plan.able(state[0]):
+        for number in plan.coming(state[0]):
             after = plan.after_piece(state, number)
             further[after] = further.get(after, 0) + many
     return further

@@ -44,7 +44,7 @@ class Plan:
                 found = found // factorial(left[number])
         return found
 
-    def able(self, left):
+    def coming(self, left):
         """The list of the calls whose next pieces may come next."""
         return next_numbers(left, self.counts, self.flags)
 

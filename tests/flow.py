@@ -49,8 +49,16 @@ def is_counting(node):
     return isinstance(node.target, ast.Name) and isinstance(node.op, ast.Add) and isinstance(node.value, ast.Constant)
 
 
+def given_names(function):
+    """The names of the parameters and local variables of a function."""
+    assigned = {
+        part.id for part in ast.walk(function) if isinstance(part, ast.Name) and isinstance(part.ctx, ast.Store)
+    }
+    return assigned.union(part.arg for part in ast.walk(function) if isinstance(part, ast.arg))
+
+
 def changes_in(function):
-    """The lines in which a function changes what it has not made, or by a sign that could do so."""
+    """The lines in which a function changes what it has not made, or could do so, or calls what it was handed."""
     own = own_names(function) | ({"self"} if function.name == "__init__" else set())
     for part in ast.walk(function):
         if isinstance(part, ast.AugAssign) and not is_counting(part):
@@ -61,6 +69,8 @@ def changes_in(function):
         if isinstance(part, ast.Call) and getattr(part.func, "attr", "") in CHANGING:
             if root_of(part.func) not in own:
                 yield part.lineno
+        if isinstance(part, ast.Call) and getattr(part.func, "id", "") in given_names(function):
+            yield part.lineno
 
 
 class Package:

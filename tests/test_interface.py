@@ -221,6 +221,8 @@ class TestLanguage(unittest.TestCase):
             head + "        return g(x)\n\n\ndef g(x):\n    n = 0\n    n |= x\n    return n\n",
             head + "        return 1\n\n\nclass B:\n    def f(self, x):\n        self.x = x\n",
             head + "        x[0] = 1\n        return x\n",
+            head + "        return x(1)\n",
+            head + "        y = self.x\n        return y(1)\n",
             head + "        y = x\n        y.append(1)\n        return y\n",
             "class A:\n    @property\n    def f(self):\n        self.n = 1\n        return 1\n",
             made + "        x.n = 1\n",
